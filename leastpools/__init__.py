@@ -1,0 +1,1 @@
+"""Leastpools: sizes of pools inside one another with which nothing can ever get stuck."""

@@ -1,0 +1,211 @@
+"""Some of the rules of LANGUAGE.md, as far as they can be seen from the source."""
+
+import ast
+import os
+import unittest
+
+HERE = os.path.dirname(os.path.abspath(__file__))
+PACKAGE = os.path.join(os.path.dirname(HERE), "leastpools")
+
+BUILTINS = set(
+    "len range enumerate zip min max sum abs sorted reversed int str bool bytes list tuple dict set frozenset "
+    "isinstance ord repr any all divmod pow iter next Exception ValueError TypeError KeyError IndexError LookupError "
+    "ZeroDivisionError ArithmeticError OverflowError RuntimeError NotImplementedError AttributeError StopIteration "
+    "NotImplemented super property True False None".split()
+)
+METHODS = set(
+    "append clear copy count endswith extend find get index insert isalnum isalpha isdigit islower isspace isupper "
+    "items join keys ljust lower lstrip partition pop remove replace reverse rfind rjust rpartition rsplit rstrip "
+    "setdefault split splitlines startswith strip update upper values zfill bit_length isascii".split()
+)
+ATTRIBUTES_BARRED = set(
+    "items keys values pop update append clear extend insert remove reverse setdefault sort args encode decode hex "
+    "fromhex format".split()
+)
+BARRED_WORDS = set(
+    "type typing typing_extensions enum Enum IntEnum StrEnum Flag IntFlag Generic Protocol ABC ABCMeta namedtuple "
+    "NamedTuple TypedDict TYPE_CHECKING abstractmethod".split()
+)
+OTHER_NAMES = set(
+    "register mro elements open input law version_info with_traceback add_note attrgetter breakpoint builtins compile "
+    "copyright credits delattr dir eval exec exit gc getattr globals hasattr help id importlib license locals "
+    "methodcaller os quit setattr super type vars sys map filter hash object callable print file".split()
+)
+SPECIAL = set(
+    "__init__ __eq__ __str__ __len__ __enter__ __exit__ __call__ __iter__ __add__ __sub__ __mul__ __and__ __or__ "
+    "__rshift__ __contains__ __getitem__".split()
+)
+
+
+def files():
+    for folder, _, names in os.walk(PACKAGE):
+        for name in sorted(names):
+            if name.endswith(".py"):
+                path = os.path.join(folder, name)
+                with open(path, encoding="utf-8") as handle:
+                    yield name, handle.read()
+
+
+def functions(tree):
+    return [node for node in ast.walk(tree) if isinstance(node, ast.FunctionDef)]
+
+
+def yields(function):
+    return any(isinstance(node, (ast.Yield, ast.YieldFrom)) for node in ast.walk(function))
+
+
+def attributes_set(tree):
+    return {node.attr for node in ast.walk(tree) if isinstance(node, ast.Attribute) and isinstance(node.ctx, ast.Store)}
+
+
+def local_names(function):
+    names = {argument.arg for argument in ast.walk(function) if isinstance(argument, ast.arg)}
+    return names | {node.id for node in ast.walk(function) if isinstance(node, ast.Name) and isinstance(node.ctx, ast.Store)}
+
+
+class TestLanguage(unittest.TestCase):
+    def trees(self):
+        return [(name, text, ast.parse(text)) for name, text in files()]
+
+    def test_sizes_and_characters(self):
+        for name, text in files():
+            lines = text.split("\n")
+            self.assertLessEqual(len(lines), 399, name)
+            for line in lines:
+                self.assertLessEqual(len(line), 120, (name, line))
+                self.assertTrue(all(" " <= sign <= "~" for sign in line), (name, line))
+            for function in functions(ast.parse(text)):
+                self.assertLessEqual(function.end_lineno - function.lineno + 1, 40, (name, function.name))
+
+    def test_imports(self):
+        seen = {}
+        for name, _, tree in self.trees():
+            seen[name] = []
+            body = [node for node in tree.body if not isinstance(node, ast.Expr)]
+            for node in ast.walk(tree):
+                self.assertNotIsInstance(node, (ast.Import, ast.Global, ast.AsyncFunctionDef))
+                if isinstance(node, ast.ImportFrom):
+                    self.assertIn(node, body)
+                    self.assertEqual((node.level, node.module.split(".")[0]), (0, "leastpools"), name)
+                    self.assertTrue(all(alias.asname is None and alias.name != "*" for alias in node.names))
+                    seen[name].append(node.module.split(".")[1] + ".py")
+        # Nothing imports itself, not even through others.
+        while seen:
+            free = [name for name in seen if not any(other in seen for other in seen[name])]
+            self.assertTrue(free, seen)
+            for name in free:
+                del seen[name]
+
+    def test_imported_names_are_defined_there(self):
+        trees = {name[:-3]: tree for name, _, tree in self.trees()}
+        for name, _, tree in self.trees():
+            for node in ast.walk(tree):
+                if isinstance(node, ast.ImportFrom):
+                    made = set()
+                    for part in trees[node.module.split(".")[1]].body:
+                        if isinstance(part, (ast.FunctionDef, ast.ClassDef)):
+                            made.add(part.name)
+                        if isinstance(part, ast.Assign):
+                            made.update(target.id for target in part.targets)
+                    used = {part.id for part in ast.walk(tree) if isinstance(part, ast.Name)}
+                    for alias in node.names:
+                        self.assertIn(alias.name, made, name)
+                        self.assertIn(alias.name, used, name)
+
+    def test_module_level(self):
+        for name, _, tree in self.trees():
+            self.assertIsInstance(tree.body[0], ast.Expr, name)
+            for node in tree.body[1:]:
+                self.assertIsInstance(node, (ast.ImportFrom, ast.FunctionDef, ast.ClassDef, ast.Assign), name)
+            bound = []
+            for node in tree.body:
+                if isinstance(node, (ast.FunctionDef, ast.ClassDef)):
+                    bound.append(node.name)
+                if isinstance(node, ast.Assign):
+                    bound.extend(target.id for target in node.targets)
+                if isinstance(node, ast.ImportFrom):
+                    bound.extend(alias.name for alias in node.names)
+            self.assertEqual(len(bound), len(set(bound)), name)
+
+    def test_local_names(self):
+        for name, _, tree in self.trees():
+            above = {node.name for node in tree.body if isinstance(node, (ast.ClassDef, ast.FunctionDef))}
+            above |= {alias.name for node in tree.body if isinstance(node, ast.ImportFrom) for alias in node.names}
+            for function in functions(tree):
+                used = local_names(function)
+                self.assertFalse(used & above, (name, function.name, used & above))
+                self.assertFalse(used & (BUILTINS | OTHER_NAMES), (name, function.name))
+                self.assertNotIn(function.name, BUILTINS | OTHER_NAMES)
+
+    def test_statements(self):
+        barred = (ast.Lambda, ast.Try, ast.Set, ast.SetComp, ast.NamedExpr, ast.Div, ast.Await, ast.Delete, ast.Assert)
+        for name, _, tree in self.trees():
+            for node in ast.walk(tree):
+                self.assertNotIsInstance(node, barred, (name, getattr(node, "lineno", 0)))
+                if isinstance(node, ast.Constant):
+                    self.assertNotIsInstance(node.value, (float, complex, bytes))
+                if isinstance(node, ast.Compare) and any(isinstance(sign, (ast.Is, ast.IsNot)) for sign in node.ops):
+                    self.assertTrue(all(isinstance(part, ast.Constant) for part in node.comparators), name)
+                if isinstance(node, ast.AugAssign):
+                    self.fail((name, node.lineno))
+                if isinstance(node, ast.GeneratorExp):
+                    self.fail((name, node.lineno))
+
+    def test_calls(self):
+        trees = self.trees()
+        methods = {f.name for _, _, tree in trees for node in ast.walk(tree) if isinstance(node, ast.ClassDef) for f in node.body if isinstance(f, ast.FunctionDef)}
+        own = {node.name for _, _, tree in trees for node in tree.body if isinstance(node, (ast.FunctionDef, ast.ClassDef))}
+        for name, _, tree in trees:
+            for node in ast.walk(tree):
+                if isinstance(node, ast.Call) and isinstance(node.func, ast.Attribute):
+                    self.assertIn(node.func.attr, methods | METHODS, (name, node.lineno))
+                if isinstance(node, ast.Call) and isinstance(node.func, ast.Name):
+                    self.assertIn(node.func.id, BUILTINS | own, (name, node.lineno))
+
+    def test_methods_and_attributes(self):
+        stored, plain, properties = set(), set(), set()
+        for name, _, tree in self.trees():
+            stored |= attributes_set(tree)
+            for node in ast.walk(tree):
+                if isinstance(node, ast.ClassDef):
+                    for function in node.body:
+                        if isinstance(function, ast.FunctionDef):
+                            if function.decorator_list:
+                                self.assertEqual([part.id for part in function.decorator_list], ["property"])
+                                properties.add(function.name)
+                            else:
+                                plain.add(function.name)
+        self.assertFalse(stored & plain)
+        self.assertFalse(stored & properties)
+        self.assertFalse(plain & properties)
+        self.assertFalse(stored & (ATTRIBUTES_BARRED | METHODS))
+        self.assertFalse(properties & METHODS)
+        special = {name for name in plain if name.startswith("__")}
+        self.assertLessEqual(special, SPECIAL)
+
+    def test_generators(self):
+        trees = self.trees()
+        made = [f.name for _, _, tree in trees for f in functions(tree) if yields(f)]
+        everything = [f.name for _, _, tree in trees for f in functions(tree)]
+        for name in made:
+            self.assertEqual(everything.count(name), 1, name)
+            self.assertNotIn(name, METHODS)
+            self.assertFalse(name.startswith("__"))
+
+    def test_words(self):
+        for name, text, tree in self.trees():
+            for node in ast.walk(tree):
+                for word in (getattr(node, "id", None), getattr(node, "attr", None), getattr(node, "arg", None)):
+                    self.assertNotIn(word, BARRED_WORDS, name)
+                if isinstance(node, ast.Constant) and isinstance(node.value, str):
+                    self.assertNotIn("%", node.value, name)
+
+    def test_lengths_return_lengths(self):
+        for name, _, tree in self.trees():
+            for function in functions(tree):
+                if function.name == "__len__":
+                    self.assertEqual(len(function.body), 1)
+                    self.assertEqual(function.body[0].value.func.id, "len")
+                if function.name == "__iter__":
+                    self.assertEqual(len(function.body), 1)
+                    self.assertEqual(function.body[0].value.func.id, "iter")
