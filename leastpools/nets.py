@@ -1,0 +1,115 @@
+"""Programs in numbers, for searches through many states.
+
+A place is a name with a position; places are numbered by the jobs of the
+program and by their positions. A bare state is the ascending tuple of the
+places of all jobs. A bare move is a tuple (place, strand, later) of places,
+later being None if the job leaves, place None if it enters.
+"""
+
+from leastpools.vectors import added, is_within
+
+
+class Net:
+    """A program in numbers."""
+
+    def __init__(self, program):
+        self._program = program
+        self._places = []
+        self._owners = []
+        for owner, name in enumerate(program.names()):
+            for position in program.code(name).positions():
+                self._places.append((name, position))
+                self._owners.append(owner)
+        self._numbers = {place: number for number, place in enumerate(self._places)}
+        self._limits = [program.limit(name) for name in program.names()]
+        self._ways_in = [self._first_places(name) for name in program.names()]
+        self._amounts_held = [program.code(name).vector_held(position) for name, position in self._places]
+        self._takes = [self._takes_at(name, position) for name, position in self._places]
+
+    def _first_places(self, name):
+        first = self._program.code(name).first()
+        return [self._numbers[(name, position)] for position in first if position is not None]
+
+    def _takes_at(self, name, position):
+        code = self._program.code(name)
+        takes = []
+        for strand, want in code.vectors_wanted(position):
+            later = [self._number_of(name, one) for one in code.after(position, strand)]
+            takes.append((strand, want, later))
+        return takes
+
+    def _number_of(self, name, position):
+        if position is None:
+            return None
+        return self._numbers[(name, position)]
+
+    def held_in(self, bare):
+        """What all jobs hold."""
+        total = tuple([0 for _ in self._program.pools])
+        for place in bare:
+            total = added(total, self._amounts_held[place])
+        return total
+
+    def steps(self, bare, sizes):
+        """Tuples (move, peak, bare state behind it) of all moves, in order.
+
+        The peak is what all jobs hold ahead of a take and what the take
+        wants; None if a job enters.
+        """
+        return self._steps_in(bare) + self._steps_on(bare, sizes)
+
+    def _steps_in(self, bare):
+        counts = [0 for _ in self._limits]
+        for place in bare:
+            counts[self._owners[place]] = counts[self._owners[place]] + 1
+        found = []
+        for owner, limit in enumerate(self._limits):
+            if counts[owner] < limit:
+                for place in self._ways_in[owner]:
+                    found.append(((None, (), place), None, with_place(bare, place)))
+        return found
+
+    def _steps_on(self, bare, sizes):
+        held = self.held_in(bare)
+        found = []
+        for at, place in enumerate(bare):
+            if at == 0 or bare[at - 1] != place:
+                rest = bare[:at] + bare[at + 1:]
+                for strand, want, later in self._takes[place]:
+                    peak = added(held, want)
+                    if is_within(peak, sizes):
+                        for one in later:
+                            found.append(((place, strand, one), peak, with_place(rest, one)))
+        return found
+
+    def jobs_of(self, bare):
+        """The dict of the jobs of a bare state."""
+        jobs = {}
+        for place in bare:
+            jobs[self._places[place]] = jobs.get(self._places[place], 0) + 1
+        return jobs
+
+    def bare_of(self, jobs):
+        """The bare state with these jobs."""
+        places = []
+        for place, many in jobs.items():
+            places.extend([self._numbers[place]] * many)
+        return tuple(sorted(places))
+
+    def move_of(self, move):
+        """The move of [9] that a bare move is."""
+        place, strand, later = move
+        if place is None:
+            name, position = self._places[later]
+            return ("enter", name, position)
+        name, position = self._places[place]
+        if later is None:
+            return ("take", name, position, strand, None)
+        return ("take", name, position, strand, self._places[later][1])
+
+
+def with_place(bare, place):
+    """A bare state with one more job at a place, or the same if that is None."""
+    if place is None:
+        return bare
+    return tuple(sorted([*bare, place]))
