@@ -195,6 +195,8 @@ class TestAnyAuthor(Case):
         self.assertIs(self.good(self.rows[::-1]), True)
         self.assertIs(self.good(self.rows + self.rows), True)
         self.assertIs(self.good(same(self.rows)), True)
+        # The order of the keys means nothing.
+        self.assertIs(self.good([(dict(reversed(list(jobs.items()))), order) for jobs, order in self.rows]), True)
         for at in range(len(self.rows)):
             self.assertIs(self.good(self.rows[:at] + self.rows[at + 1:]), False)
         for thing in (tuple(self.rows), [list(row) for row in self.rows], [], self.rows + [ODD], self.rows + [None],
