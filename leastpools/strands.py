@@ -29,22 +29,17 @@ def can_go(told, row, free, gone):
 
 def freed(told, free):
     """The rows that can go on, in an order in which each can if those ahead have given back."""
-    order = []
     gone = {}
     waiting = list(told)
-    while len(waiting) > 0:
-        left = []
+    many = -1
+    while len(gone) > many:
+        many = len(gone)
         for row in waiting:
             if can_go(told, row, free, gone):
                 free = added(free, told[row][1])
                 gone[row] = True
-                order.append(row)
-            else:
-                left.append(row)
-        if len(left) == len(waiting):
-            return order
-        waiting = left
-    return order
+        waiting = [row for row in waiting if row not in gone]
+    return list(gone)
 
 
 def free_of(state):

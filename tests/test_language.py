@@ -63,6 +63,69 @@ def local_names(function):
     return names | {node.id for node in ast.walk(function) if isinstance(node, ast.Name) and isinstance(node.ctx, ast.Store)}
 
 
+CHANGING = set("append clear extend insert remove pop reverse setdefault update add discard sort".split())
+
+
+def same_values(function):
+    """Groups of names, fields and items of a function that may be the same value, by their text."""
+    groups = {}
+    for node in ast.walk(function):
+        if isinstance(node, ast.Assign):
+            parts = [node.value]
+            for part in parts:
+                if isinstance(part, ast.IfExp):
+                    parts.extend([part.body, part.orelse])
+                if isinstance(part, ast.BoolOp):
+                    parts.extend(part.values)
+            plain = [part for part in parts if isinstance(part, (ast.Name, ast.Attribute, ast.Subscript))]
+            words = {ast.unparse(part) for part in [*plain, *node.targets]} if plain else set()
+            for word in list(words):
+                words |= groups.get(word, set())
+            for word in words:
+                groups[word] = words
+    return groups
+
+
+def walked(loop):
+    """What a loop goes over, through enumerate and the like, too."""
+    parts = [loop.iter]
+    for part in parts:
+        if isinstance(part, ast.IfExp):
+            parts.extend([part.body, part.orelse])
+        if isinstance(part, ast.BoolOp):
+            parts.extend(part.values)
+        if isinstance(part, ast.Call) and isinstance(part.func, ast.Attribute) and part.func.attr in ("items", "keys", "values"):
+            parts.append(part.func.value)
+        if isinstance(part, ast.Call) and isinstance(part.func, ast.Name) and part.func.id in ("enumerate", "zip", "reversed"):
+            parts.extend(part.args)
+    return parts
+
+
+def changed_in(loop):
+    """What is changed in a loop by methods of lists and dicts, or by items."""
+    for statement in loop.body:
+        for node in ast.walk(statement):
+            if isinstance(node, ast.Call) and isinstance(node.func, ast.Attribute) and node.func.attr in CHANGING:
+                yield node.func.value
+            if isinstance(node, ast.Subscript) and not isinstance(node.ctx, ast.Load):
+                yield node.value
+
+
+def changes_what_it_walks(function):
+    """Whether a loop of a function changes what it goes over, or what may be the same."""
+    groups = same_values(function)
+    for loop in ast.walk(function):
+        if isinstance(loop, ast.For):
+            over = set()
+            for part in walked(loop):
+                over |= groups.get(ast.unparse(part), set()) | {ast.unparse(part)}
+            fields = {word.rpartition(".")[2] for word in over if "." in word and "(" not in word}
+            for part in changed_in(loop):
+                if ast.unparse(part) in over or (isinstance(part, ast.Attribute) and part.attr in fields):
+                    return True
+    return False
+
+
 class TestLanguage(unittest.TestCase):
     def trees(self):
         return [(name, text, ast.parse(text)) for name, text in files()]
@@ -209,3 +272,21 @@ class TestLanguage(unittest.TestCase):
                 if function.name == "__iter__":
                     self.assertEqual(len(function.body), 1)
                     self.assertEqual(function.body[0].value.func.id, "iter")
+
+    def test_loops_leave_what_they_walk(self):
+        bad = (
+            "for row in rows: rows.append(row)",
+            "for at, row in enumerate(rows): rows[at] = 1",
+            "for row in table.items(): del table[row]",
+            "for row in self.rows: other.rows.append(row)",
+            "for row in rows if rows else others: others.clear()",
+            # What is walked next is what is changed now.
+            "while rows:\n  left = []\n  for row in rows: left.append(row)\n  rows = left",
+        )
+        for text in bad:
+            self.assertTrue(changes_what_it_walks(ast.parse(text)), text)
+        for text in ("for row in list(rows): rows.append(row)", "for row in rows: left.append(row)\nrows = list(left)"):
+            self.assertFalse(changes_what_it_walks(ast.parse(text)), text)
+        for name, _, tree in self.trees():
+            for function in functions(tree):
+                self.assertFalse(changes_what_it_walks(function), (name, function.name))
