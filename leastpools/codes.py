@@ -1,6 +1,7 @@
 """What can be told of the code of a job [8]."""
 
 from leastpools.errors import InvalidPosition
+from leastpools.falling import Falls
 from leastpools.outlines import Outline, Ways, reachable
 from leastpools.positions import MOST_BOTHS, inside_of, is_shaped, order_of, takers_in, waiting_in
 from leastpools.statements import boths_of, is_code, waits_of
@@ -21,6 +22,7 @@ class Code:
         self._pools = pools
         self._wants = outline.wants()
         self._holds = outline.holds()
+        self._falls = Falls(outline, self._nothing())
         self._positions = sorted(positions, key=order_of)
         self._indexes = {position: at for at, position in enumerate(self._positions)}
         self._first = sorted(ways.first(), key=order_of)
@@ -114,6 +116,19 @@ class Code:
             inside = inside_of(position, strand)
             rows.append((strand, self._wants[number], self._holds[number], inside))
         return rows
+
+    def takes(self):
+        """Tuples (want, held) of all takes, with what the strand that waits holds, as vectors."""
+        return [(want, held) for want, held in zip(self._wants, self._holds) if want is not None]
+
+    def falls_at(self, position):
+        """Tuples (strand, falls) of all strands that wait; a fall is a tuple (need, given) of vectors."""
+        self.check(position)
+        return [(strand, self._falls.from_wait(number)) for strand, number in waiting_in(position)]
+
+    def vector_needed(self):
+        """The greatest need [17] of the takes, as a vector."""
+        return self._falls.greatest_need
 
 
 def later_by_strand(ways, position):

@@ -3,7 +3,7 @@
 from leastpools.errors import InvalidProgram, TooMany
 from leastpools.masks import Masks, bad_mask
 from leastpools.nets import Net
-from leastpools.programs import Program
+from leastpools.programs import check_program
 from leastpools.searching import Search
 from leastpools.sizes import Sizes
 from leastpools.vectors import greater, how_many_to, is_within, lesser, sizes_of, vector_of, vectors_to
@@ -13,8 +13,7 @@ MOST_ON_GRID = 400
 
 def caps(program):
     """The amounts of the pools from which on nobody waits for them."""
-    if not isinstance(program, Program):
-        raise InvalidProgram(program)
+    check_program(program)
     total = Sizes({})
     for name in program.names():
         total = total + program.code(name).need * program.limit(name)

@@ -7,8 +7,8 @@ from leastpools.vectors import added, less_by
 class Outline:
     """Code with calls and repeats written out, and its waits with numbers.
 
-    It is a list of nodes: ("take", number, nodes), ("either", nodes, nodes)
-    and ("both", number, nodes, nodes).
+    It is a list of nodes: ("take", number, nodes), ("give", vector),
+    ("either", nodes, nodes) and ("both", number, nodes, nodes).
     """
 
     def __init__(self, pools, codes, code):
@@ -46,7 +46,9 @@ class Outline:
         nodes = []
         for statement in code:
             if statement[0] == "give":
-                held = less_by(held, self._vector(((statement[1], statement[2]),)))
+                given = self._vector(((statement[1], statement[2]),))
+                held = less_by(held, given)
+                nodes.append(("give", given))
             else:
                 nodes.extend(self._nodes_of(statement, held))
         return nodes
@@ -123,6 +125,8 @@ class Ways:
         return rest
 
     def _outcomes_of(self, node, rest):
+        if node[0] == "give":
+            return rest
         if node[0] == "either":
             return merged(self._outcomes(node[1], rest), self._outcomes(node[2], rest))
         if node[0] == "take":

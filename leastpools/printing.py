@@ -1,15 +1,13 @@
 """From a program to its text [7]."""
 
-from leastpools.errors import InvalidProgram
-from leastpools.programs import Program
+from leastpools.programs import check_program
 
 INDENT = "  "
 
 
 def format_program(program):
     """The text of a program."""
-    if not isinstance(program, Program):
-        raise InvalidProgram(program)
+    check_program(program)
     lines = [spaced(["pools", *program.pools]) + ";"]
     for name, limit, code in program.jobs:
         lines.extend([spaced(["job", name, "limit", str(limit), "{"]), *inner_lines(code), "}"])

@@ -113,3 +113,9 @@ def changed(job, name, limit, code):
     if job[0] != name:
         return job
     return (name, limit, code)
+
+
+def check_program(program):
+    """Raise InvalidProgram unless a value is a Program."""
+    if not isinstance(program, Program):
+        raise InvalidProgram(program)

@@ -50,6 +50,55 @@ def random_program(seed, most_jobs=3, most_limit=2):
             continue
 
 
+def plain_inside(rng, pool, callees, depth):
+    """Some code inside a take of a plain program."""
+    code = [("run",)] * rng.randint(0, 1)
+    word = rng.choice(("take", "take", "take", "either", "repeat", "call", "run")) if depth < 4 else "run"
+    if word == "take":
+        code.append(("take", ((pool, rng.choice((1, 1, 2, 3))),), plain_inside(rng, pool, callees, depth + 1)))
+    if word == "either":
+        code.append((word, plain_inside(rng, pool, callees, depth + 1), plain_inside(rng, pool, callees, depth + 1)))
+    if word == "repeat":
+        code.append((word, rng.randint(1, 2), plain_inside(rng, pool, callees, depth + 1)))
+    if word == "call" and callees:
+        code.append((word, rng.choice(callees), pool))
+    return tuple(code + [("run",)] * rng.randint(0, 1))
+
+
+def plain_outside(rng, pools, callees, depth):
+    """Some code outside of all takes of a plain program."""
+    code = []
+    for _ in range(rng.choice((0, 1, 1, 2))):
+        word = rng.choice(("take", "take", "take", "either", "repeat", "call", "run") if depth < 3 else ("take", "run"))
+        pool = rng.choice(pools)
+        if word == "run":
+            code.append((word,))
+        elif word == "take":
+            code.append((word, ((pool, rng.choice((1, 1, 2, 3))),), plain_inside(rng, pool, callees, depth + 1)))
+        elif word == "either":
+            code.append((word, plain_outside(rng, pools, callees, depth + 1), plain_outside(rng, pools, callees, depth + 1)))
+        elif word == "repeat":
+            code.append((word, rng.randint(1, 2), plain_outside(rng, pools, callees, depth + 1)))
+        elif callees:
+            code.append((word, rng.choice(callees), pool))
+    return tuple(code)
+
+
+def plain_program(seed, is_plain):
+    """A plain program that depends on the seed alone; what is called may make it another one."""
+    rng = random.Random(seed)
+    while True:
+        pools = tuple(rng.sample(("a", "b", "c"), rng.randint(1, 2)))
+        names = ("load", "save", "mend")[:rng.randint(1, 3)]
+        jobs = [(name, rng.randint(0, 3), plain_outside(rng, pools, names[:at], 0)) for at, name in enumerate(names)]
+        try:
+            program = Program(pools, tuple(jobs))
+        except InvalidProgram:
+            continue
+        if is_plain(program):
+            return program
+
+
 class Model:
     """The code of a job, done step by step with frames; it numbers the waits by the text."""
 
@@ -152,6 +201,64 @@ class Model:
         if strand[0] == 0:
             return self.around(number, self.after(first, strand[1:]), [second], frames)
         return self.around(number, [first], self.after(second, strand[1:]), frames)
+
+    def need(self, take):
+        """The need of a take: what is held and wanted, counting from the take on."""
+        return Sizes(take[2]) | self.need_in(take[3], Sizes(take[2]))
+
+    def need_in(self, code, held):
+        need = Sizes({})
+        for statement in code:
+            if statement[0] == "give":
+                held = held - Sizes({statement[1]: statement[2]})
+            elif statement[0] == "take":
+                need = need | (held + self.need(statement))
+            elif statement[0] != "run":
+                for inner in statement[-2:]:
+                    need = need | self.need_in(inner, held)
+        return need
+
+    def needs_met(self, statement):
+        """The greatest need of the takes that may be met in a statement."""
+        if statement[0] == "take":
+            return self.need(statement)
+        if statement[0] in ("either", "both"):
+            return self.greatest([self.needs_met(inner) for code in statement[-2:] for inner in code])
+        return Sizes({})
+
+    def greatest(self, some):
+        total = Sizes({})
+        for one in some:
+            total = total | one
+        return total
+
+    def falls(self, way):
+        """The falls of the outer strand of a way, by what is still to come in its frames."""
+        rows = []
+        need = Sizes({})
+        if len(way) == 4:
+            need = self.need(("take",) + way[:3])
+        for code, index, left in reversed(way[-1]):
+            left = dict(left)
+            for statement in code[index:]:
+                if statement[0] == "give":
+                    rows.append((need, Sizes({statement[1]: statement[2]})))
+                    left[statement[1]] -= statement[2]
+                    need = Sizes({})
+                need = need | self.needs_met(statement)
+            if left:
+                rows.append((need, Sizes(left)))
+                need = Sizes({})
+        return rows + [(need, Sizes({}))]
+
+    def all_falls(self, way, strand=()):
+        """Tuples (strand, falls) of all strands."""
+        if way is None:
+            return []
+        rows = [(strand, self.falls(way))]
+        if len(way) == 4:
+            return rows
+        return rows + self.all_falls(way[1], strand + (0,)) + self.all_falls(way[2], strand + (1,))
 
     def ways(self):
         """A dict from all positions that can be reached to how a job rests there."""
