@@ -1,12 +1,12 @@
 """All good sizes of a program, told by a finite grid [13]."""
 
 from leastpools.errors import InvalidProgram, TooMany
-from leastpools.masks import Masks, bad_mask
+from leastpools.masks import Masks, bad_mask, unset_in
 from leastpools.nets import Net
 from leastpools.programs import check_program
 from leastpools.searching import Search
 from leastpools.sizes import Sizes
-from leastpools.vectors import greater, how_many_to, is_within, lesser, sizes_of, vector_of, vectors_to
+from leastpools.vectors import greater, how_many_to, is_within, lesser, sizes_of, vector_of, vectors_to, with_amount
 
 MOST_ON_GRID = 400
 
@@ -24,19 +24,13 @@ def good_vectors(program, greatest):
     """A dict from the vectors of the grid, in its order, to whether they are good."""
     search = Search(Net(program), greatest)
     masks = Masks(greatest)
-    bad = bad_mask(search, masks)
-    return {vector: (bad >> index) & 1 == 0 for index, vector in enumerate(vectors_to(greatest))}
+    return unset_in(bad_mask(search, masks), greatest)
 
 
 def check_grid(greatest):
     """Raise TooMany if there are too many vectors up to the greatest."""
     if how_many_to(greatest) > MOST_ON_GRID:
         raise TooMany(MOST_ON_GRID)
-
-
-def with_amount(vector, at, amount):
-    """The vector with another amount of one pool."""
-    return vector[:at] + (amount,) + vector[at + 1:]
 
 
 def is_flat(told, at, amount):

@@ -36,6 +36,11 @@ def mask_of(answers):
     return mask
 
 
+def unset_in(mask, greatest):
+    """A dict from all vectors up to the greatest, in order, to whether their bit is not set in a mask."""
+    return {vector: (mask >> index) & 1 == 0 for index, vector in enumerate(vectors_to(greatest))}
+
+
 def masked_edges(search, masks):
     """For each state a list of tuples (mask, index of the state behind, whether it takes) of its moves."""
     rows = []

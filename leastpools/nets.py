@@ -6,6 +6,7 @@ places of all jobs. A bare move is a tuple (place, strand, later) of places,
 later being None if the job leaves, place None if it enters.
 """
 
+from leastpools.positions import inside_of
 from leastpools.vectors import added, is_within
 
 
@@ -58,10 +59,15 @@ class Net:
         """
         return self._steps_in(bare) + self._steps_on(bare, sizes)
 
-    def _steps_in(self, bare):
+    def counts_of(self, bare):
+        """How many jobs of each name are there."""
         counts = [0 for _ in self._limits]
         for place in bare:
             counts[self._owners[place]] = counts[self._owners[place]] + 1
+        return counts
+
+    def _steps_in(self, bare):
+        counts = self.counts_of(bare)
         found = []
         for owner, limit in enumerate(self._limits):
             if counts[owner] < limit:
@@ -81,6 +87,19 @@ class Net:
                         for one in later:
                             found.append(((place, strand, one), peak, with_place(rest, one)))
         return found
+
+    def grant_of(self, move):
+        """What the moves have in common that are one grant [18]."""
+        place, strand, later = move
+        if place is None:
+            return (None, self._owners[later])
+        return (place, strand)
+
+    def falls_at(self, place):
+        """Tuples (strand, falls, strands right inside) of the strands at a place."""
+        name, position = self._places[place]
+        rows = self._program.code(name).falls_at(position)
+        return [(strand, told, inside_of(position, strand)) for strand, told in rows]
 
     def jobs_of(self, bare):
         """The dict of the jobs of a bare state."""

@@ -74,7 +74,7 @@ def ring(program):
         for chain in chains:
             if (chain[-1], chain[0]) in leads:
                 return chain
-        chains = [[*chain, pool] for chain in chains for pool in program.pools if (chain[-1], pool) in leads]
+        chains = [[*one, pool] for one in chains for pool in program.pools if (one[-1], pool) in leads]
     return []
 
 

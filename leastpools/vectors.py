@@ -43,6 +43,11 @@ def is_within(one, other):
     return all([a <= b for a, b in zip(one, other)])
 
 
+def with_amount(vector, at, amount):
+    """The vector with another amount of one pool."""
+    return vector[:at] + (amount,) + vector[at + 1:]
+
+
 def vectors_to(greatest):
     """All vectors with amounts from 0 to the greatest, in ascending order."""
     rows = [()]

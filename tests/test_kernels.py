@@ -10,7 +10,7 @@ from leastpools.runs import Run
 from leastpools.sizes import Sizes
 from leastpools.states import empty_state
 from leastpools.stuck import is_stuck, stuck_set
-from tests.helpers import ANYTHING, CROSSED, ODD, Case
+from tests.helpers import ANYTHING, CROSSED, Case
 from tests.model import random_program
 
 PROGRAM = parse(CROSSED)

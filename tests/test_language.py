@@ -201,7 +201,7 @@ class TestLanguage(unittest.TestCase):
                 self.assertNotIn(function.name, BUILTINS | OTHER_NAMES)
 
     def test_statements(self):
-        barred = (ast.Lambda, ast.Try, ast.Set, ast.SetComp, ast.NamedExpr, ast.Div, ast.Await, ast.Delete, ast.Assert)
+        barred = (ast.Lambda, ast.Set, ast.SetComp, ast.NamedExpr, ast.Div, ast.Await, ast.Delete, ast.Assert)
         for name, _, tree in self.trees():
             for node in ast.walk(tree):
                 self.assertNotIsInstance(node, barred, (name, getattr(node, "lineno", 0)))
@@ -213,6 +213,16 @@ class TestLanguage(unittest.TestCase):
                     self.fail((name, node.lineno))
                 if isinstance(node, ast.GeneratorExp):
                     self.fail((name, node.lineno))
+
+    def test_only_own_errors_are_caught(self):
+        own = {node.name for name, _, tree in self.trees() if name == "errors.py" for node in tree.body if isinstance(node, ast.ClassDef)}
+        for name, _, tree in self.trees():
+            for node in ast.walk(tree):
+                if isinstance(node, ast.Try):
+                    self.assertEqual((node.orelse, node.finalbody), ([], []), name)
+                    for handler in node.handlers:
+                        self.assertIsInstance(handler.type, ast.Name, name)
+                        self.assertIn(handler.type.id, own)
 
     def test_calls(self):
         trees = self.trees()

@@ -1,0 +1,70 @@
+"""All states that are reached with care [18], and the grants that are held back there."""
+
+from leastpools.errors import TooMany
+from leastpools.falling import Descent
+from leastpools.searching import MOST_STATES
+from leastpools.vectors import less_by, times
+
+
+class CarefulSearch:
+    """The bare states [nets.py] that are reached by careful moves, the nearest ones first."""
+
+    def __init__(self, net, sizes):
+        self._net = net
+        self._sizes = sizes
+        self._safe = {}
+        self._states = [()]
+        self._met = {(): True}
+        self._price = 0
+        index = 0
+        while index < len(self._states):
+            self._go_on_from(self._states[index])
+            index = index + 1
+
+    def bare_states(self):
+        """All bare states."""
+        return list(self._states)
+
+    def price(self):
+        """How many grants are held back in these states."""
+        return self._price
+
+    def _go_on_from(self, bare):
+        for behind in self._behind_grants(bare):
+            if all([self._is_safe(later) for later in behind]):
+                for later in behind:
+                    self._meet(later)
+            else:
+                self._price = self._price + 1
+
+    def _behind_grants(self, bare):
+        # For each grant the bare states behind its moves.
+        grants = {}
+        for move, _, later in self._net.steps(bare, self._sizes):
+            grants.setdefault(self._net.grant_of(move), []).append(later)
+        return list(grants.values())
+
+    def _meet(self, bare):
+        if bare in self._met:
+            return
+        if len(self._states) == MOST_STATES:
+            raise TooMany(MOST_STATES)
+        self._met[bare] = True
+        self._states.append(bare)
+
+    def _is_safe(self, bare):
+        if bare not in self._safe:
+            descent = Descent(self._told_of(bare), less_by(self._sizes, self._net.held_in(bare)))
+            descent.fall_all()
+            self._safe[bare] = len(descent.left()) == 0
+        return self._safe[bare]
+
+    def _told_of(self, bare):
+        told = {}
+        for place in bare:
+            if (place, ()) not in told:
+                many = bare.count(place)
+                for strand, rows, inside in self._net.falls_at(place):
+                    together = [(need, times(given, many)) for need, given in rows]
+                    told[(place, strand)] = (together, [(place, part) for part in inside])
+        return told
