@@ -15,14 +15,20 @@ def is_shaped(thing, boths=MOST_BOTHS):
         return is_integer(thing)
     if boths == 0 or len(thing) != 3 or not is_integer(thing[0]):
         return False
-    return all([part is None or is_shaped(part, boths - 1) for part in thing[1:]])
+    _, first, second = thing
+    if first is not None and not is_shaped(first, boths - 1):
+        return False
+    return second is None or is_shaped(second, boths - 1)
 
 
 def is_strand(thing):
     """Whether a value has the form of a strand."""
     if not isinstance(thing, tuple) or len(thing) > MOST_BOTHS:
         return False
-    return all([is_integer(part) and part in (0, 1) for part in thing])
+    for part in thing:
+        if not is_integer(part) or part not in (0, 1):
+            return False
+    return True
 
 
 def order_of(position):

@@ -6,17 +6,33 @@ it wants, None if it waits at a both; what all those strands hold; the rows
 right inside it. Amounts are vectors in the order of the pools.
 """
 
+from leastpools.positions import is_shaped, is_strand
 from leastpools.vectors import added, is_within, less_by, times, vector_of
+
+
+def rows_of_one(program, places):
+    """A dict from all rows of some places to what is told of them, if one job is at each."""
+    told = {}
+    for name, position in places:
+        for strand, want, held, inside in program.code(name).strands(position):
+            rows = [(name, position, part) for part in inside]
+            told[(name, position, strand)] = (want, held, rows)
+    return told
 
 
 def rows_of(state):
     """A dict from all rows of a state to what is told of them."""
-    told = {}
-    for (name, position), many in state.jobs_by_position().items():
-        for strand, want, held, inside in state.program.code(name).strands(position):
-            rows = [(name, position, part) for part in inside]
-            told[(name, position, strand)] = (want, times(held, many), rows)
-    return told
+    jobs = state.jobs_by_position()
+    one = rows_of_one(state.program, list(jobs))
+    return {row: (want, times(held, jobs[row[:2]]), inside) for row, (want, held, inside) in one.items()}
+
+
+def is_row(told, thing):
+    """Whether a value is one of the rows."""
+    # The form comes first: True is equal to 1, and a list is no key.
+    if not isinstance(thing, tuple) or len(thing) != 3 or not isinstance(thing[0], str):
+        return False
+    return is_shaped(thing[1]) and is_strand(thing[2]) and thing in told
 
 
 def can_go(told, row, free, gone):
@@ -53,3 +69,19 @@ def left_by(state, told, rows):
     for row in rows:
         rest = less_by(rest, told[row][1])
     return rest
+
+
+def gone_in_order(one, jobs, free, thing):
+    """The rows of an order of jobs in which each can go on, as a dict; None if a value is no such order.
+
+    What is told is that of one job at each place; the order may be of a part of the rows.
+    """
+    if not isinstance(thing, list):
+        return None
+    gone = {}
+    for row in thing:
+        if not is_row(one, row) or row[:2] not in jobs or row in gone or not can_go(one, row, free, gone):
+            return None
+        gone[row] = True
+        free = added(free, times(one[row][1], jobs[row[:2]]))
+    return gone

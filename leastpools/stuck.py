@@ -1,10 +1,9 @@
 """Who is stuck in a state [11]."""
 
 from leastpools.errors import InvalidState
-from leastpools.positions import is_shaped, is_strand
 from leastpools.states import State
-from leastpools.strands import can_go, free_of, freed, left_by, rows_of
-from leastpools.vectors import added, is_within, sizes_of
+from leastpools.strands import free_of, freed, gone_in_order, is_row, left_by, rows_of, rows_of_one
+from leastpools.vectors import is_within, sizes_of
 
 
 def check_state(state):
@@ -52,14 +51,6 @@ def are_rows(told, thing):
     return len({row: True for row in thing}) == len(thing)
 
 
-def is_row(told, thing):
-    """Whether a value is one of the rows."""
-    # The form comes first: True is equal to 1, and a list is no key.
-    if not isinstance(thing, tuple) or len(thing) != 3 or not isinstance(thing[0], str):
-        return False
-    return is_shaped(thing[1]) and is_strand(thing[2]) and thing in told
-
-
 def lets_stuck(state, thing):
     """Whether a value shows that the strands of some rows never go on."""
     check_state(state)
@@ -81,14 +72,7 @@ def stays(told, row, rest, rows):
 def lets_order(state, thing):
     """Whether a value is an order of all rows in which each can go on."""
     check_state(state)
-    told = rows_of(state)
-    if not are_rows(told, thing) or len(thing) != len(told):
-        return False
-    free = free_of(state)
-    gone = {}
-    for row in thing:
-        if not can_go(told, row, free, gone):
-            return False
-        free = added(free, told[row][1])
-        gone[row] = True
-    return True
+    jobs = state.jobs_by_position()
+    one = rows_of_one(state.program, list(jobs))
+    gone = gone_in_order(one, jobs, free_of(state), thing)
+    return gone is not None and len(gone) == len(one)

@@ -40,7 +40,10 @@ def greater(one, other):
 
 def is_within(one, other):
     """Whether each amount is at most that of other."""
-    return all([a <= b for a, b in zip(one, other)])
+    for a, b in zip(one, other):
+        if a > b:
+            return False
+    return True
 
 
 def with_amount(vector, at, amount):

@@ -2,8 +2,9 @@
 
 from leastpools.nets import Net
 from leastpools.searching import Search
-from leastpools.states import State, are_resting, empty_state
-from leastpools.stuck import freeing_order, is_stuck, lets_order
+from leastpools.states import State, empty_state
+from leastpools.stuck import freeing_order, is_stuck
+from leastpools.tables import Table
 from leastpools.vectors import vector_of
 
 
@@ -65,21 +66,11 @@ def lets_run(state, moves):
 
 def lets_table(program, sizes, rows):
     """Whether a list holds rows that show that nothing gets stuck."""
-    if not all([lets_row(program, sizes, row) for row in rows]):
-        return False
-    net = Net(program)
-    known = {net.bare_of(jobs): True for jobs, _ in rows}
-    if () not in known:
-        return False
-    amounts = vector_of(program.pools, sizes)
-    for bare in known:
-        if not all([later in known for _, _, later in net.steps(bare, amounts)]):
+    table = Table(program, sizes)
+    known = {}
+    for row in rows:
+        bare = table.state_of(row)
+        if bare is None:
             return False
-    return True
-
-
-def lets_row(program, sizes, row):
-    """Whether a value is a tuple (jobs, order) of a state in which each strand can go on."""
-    if not isinstance(row, tuple) or len(row) != 2 or not are_resting(program, sizes, row[0]):
-        return False
-    return lets_order(State(program, sizes, row[0]), row[1])
+        known[bare] = True
+    return () in known and table.is_closed(known)

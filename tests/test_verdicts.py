@@ -210,6 +210,12 @@ class TestAnyAuthor(Case):
             if not isinstance(thing, list) or thing:
                 self.assertIs(self.good(self.rows + [({}, thing)]), False)
 
+    def test_counts_of_any_size(self):
+        # 10 ** 15 jobs would not fit into any list.
+        for many in (2, 3, 10 ** 15, 0, -1, -10 ** 15):
+            for extra in ({("load", 0): many}, {("load", 0): 1, ("load", 1): many}):
+                self.assertIs(self.good([*self.rows, (extra, [])]), False)
+
     def test_bent_rows(self):
         for at, (jobs, order) in enumerate(self.rows):
             def bent(row):
