@@ -113,7 +113,7 @@ def lets_rows(waits, limits, size, rows):
         return False
     for name in waits:
         many = sum([row[3] for row in rows if row[0] == name])
-        if many > 0 and not is_one_more_allowed(limits[name], many - 1):
+        if not is_one_more_allowed(limits[name], many - 1):
             return False
     rest = size - sum([row[1] * row[3] for row in rows])
     return rest >= 0 and all([row[2] > rest for row in rows])

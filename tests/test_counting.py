@@ -129,6 +129,12 @@ class TestCount(Case):
         self.assertEqual(len(count(TWO, {"one": 0, "two": 0}, "a", 200)[1]), 3)
         self.assertEqual(len(count(TWO, {"one": 0, "two": 0}, "a", 1)[1]), 2)
 
+    def test_no_sums_above_the_size(self):
+        told = count(jobs("take a 3 { take a 1 { } }"), {"one": 2}, "a", 5)
+        self.assertEqual(told, ("good", [[({0: 0, 3: 1}, [0, 3])], [({0: 0}, [0])], [({0: 0}, [0])]]))
+        told = count(jobs("take a 3 { take a 1 { } }", "take a 4 { take a 1 { } }"), {"one": 1, "two": 1}, "a", 6)
+        self.assertEqual(told[1][0], [({0: 0, 3: 1}, [0, 3]), ({0: 0, 4: 1}, [0, 3, 4])])
+
     def test_limits(self):
         for many in (200, 10 ** 18, None):
             self.assertEqual(count(NESTED_ONCE, {"one": many}, "a", 200), ("stuck", [("one", 1, 1, 200)]))
@@ -313,6 +319,12 @@ class TestAnyAuthor(Case):
                      [["one", 1, 2, 1]], [("one", 1, 1, 1)], [("three", 1, 2, 1)], [("two", 2, 1, 2)], [("two", 2, 1, 1), ("one", 1, 2, 1), ("one", 1, 2, 1)],
                      [("one", 1, 2, -1)], [("a", 1, 2, 1)], [("one", 0, 2, 1)], [("one", 1.0, 2, 1)], right[0] + [ODD], right[0] + [None], tuple(right[0])):
             self.assertIs(self.lets(("stuck", rows), 3), False, rows)
+        # With 2 the first row is enough; each of these would be, but for one thing.
+        row = ("one", 1, 2, 1)
+        for rows in ([("one", True, 2, 1)], [("one", 1, 2, True)], [("one", 1.0, 2, 1)], [row, ("two", 0, 3, 0)], [row, ("two", 0, 3, -1)], [row, (ODD, 0, 3, 1)],
+                     [row, (["one"], 0, 3, 1)], [row, ("two", ODD, 3, 1)], [row, ("two", 0, ODD, 1)], [row, ("two", 0, 3, ODD)], [row, ("two", False, 3, 1)], [row, ("two", 0, 3, 2)]):
+            self.assertIs(self.lets(("stuck", rows), 2), False, rows)
+        self.assertIs(self.lets(("stuck", [row, ("two", 0, 3, 1)]), 2), True)
         self.assertIs(self.lets(["stuck", right[0]], 3), False)
         self.assertIs(self.lets(("stuck", right[0], 1), 3), False)
         self.assertIs(self.lets(("stuck", right[0]), 3, pool="b"), False)
@@ -419,6 +431,13 @@ class TestAnyAuthor(Case):
         self.assertIs(self.lets(("good", [[({0: 0, 1: 0, 2: 1, 3: 2}, [0, 1, 2, 3])]]), 4, NESTED_ONCE, limits), True)
         self.assertIs(self.lets(("good", [[({0: 0, 1: 0, 2: 0, 3: 1, 4: 2}, [0, 1, 2, 3, 4])]]), 4, NESTED_ONCE, limits), False)
         self.assertIs(self.lets(("good", [[({0: 0, 1: 1, 2: 3}, [0, 1, 2])]]), 4, NESTED_ONCE, limits), False)
+
+    def test_sums_as_great_as_the_size(self):
+        # Three jobs that hold 1 each are stuck with 3; this cannot be left out.
+        fewest = {0: 0, 1: 1, 2: 2, 3: 3}
+        for some, sums in ((fewest, [0, 1, 2, 3]), (fewest, [0, 1, 2]), ({0: 0, 1: 1, 2: 2}, [0, 1, 2]), ({0: 0, 1: 1, 2: 2, 3: 4}, [0, 1, 2])):
+            self.assertIs(self.lets(("good", [[(some, sums)]]), 3, NESTED_ONCE, {"one": 3}), False)
+        self.assertIs(self.lets(("good", [[(fewest, [0, 1, 2, 3])]]), 4, NESTED_ONCE, {"one": 3}), True)
 
     def test_a_rest_of_the_whole_size(self):
         program = jobs("take a 2 { }")

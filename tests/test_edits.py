@@ -101,6 +101,8 @@ class TestKinds(Case):
         self.assertEqual(code_behind("take a 2 b 1 { run; run; }", "early", (0,), "a"), "take a 2 b 1 { run; give a 2; run; }")
         self.assertEqual(code_behind("take a 2 b 1 { run; }", "early", (0,), "b"), "take a 2 b 1 { give b 1; run; }")
         self.assertEqual(code_behind("take a 3 { give a 1; take b 1 { } }", "early", (0,), "a"), "take a 3 { give a 1; give a 2; take b 1 { } }")
+        self.assertEqual(code_behind("take a 3 b 2 { give b 1; give a 1; run; }", "early", (0,), "a"), "take a 3 b 2 { give b 1; give a 1; give a 2; run; }")
+        self.assertEqual(code_behind("take a 3 b 2 { give b 1; give a 1; run; }", "early", (0,), "b"), "take a 3 b 2 { give b 1; give a 1; give b 1; run; }")
         # What the last statement gives is not left at the end.
         self.assertEqual(code_behind("take a 3 { run; give a 1; }", "early", (0,), "a"), "take a 3 { run; give a 2; give a 1; }")
         self.assertEqual(code_behind("take a 1 { take a 9 { run; } }", "early", (0, 0, 0), "a"), "take a 1 { take a 9 { give a 9; run; } }")

@@ -216,6 +216,29 @@ class TestAnyAuthor(Case):
             for extra in ({("load", 0): many}, {("load", 0): 1, ("load", 1): many}):
                 self.assertIs(self.good([*self.rows, (extra, [])]), False)
 
+    def test_keys_that_are_no_places(self):
+        for key in (None, 0, 1, "load", (), ("load",), ("load", 0, 0), (0, 0), ("load", 7), ("load", -1), ("none", 0), ("load", "0"), ("load", None), ("load", 1.0),
+                    (ODD.__class__, 0), frozenset(["load", 0]), ("load", (0, 0, 0)), (("load", 0), 0), (b"load", 0)):
+            self.assertIs(self.good([*self.rows, ({key: 1}, [])]), False)
+            self.assertIs(self.good([*self.rows, ({key: 1}, [("load", 0, ())])]), False)
+
+    def test_jobs_that_could_not_be(self):
+        # The limit holds for all positions together.
+        two = {("load", 0): 1, ("load", 1): 1}
+        order = [("load", 0, ()), ("load", 1, ())]
+        self.assertTrue(lets_order(State(PROGRAM.with_limit("load", 2), TWO, two), order))
+        self.assertFalse(self.good([*self.rows, (two, order)]))
+        alone = PROGRAM.with_limit("save", 0)
+        rows = verdict(alone, ONE)[1]
+        self.assertTrue(self.good(rows, alone, ONE))
+        self.assertFalse(self.good([*rows, (two, order[::-1])], alone, ONE))
+        # Two jobs cannot hold one place of a, though what they want is free.
+        program = PROGRAM.with_limit("load", 2).with_limit("save", 0)
+        rows = verdict(program, ONE)[1]
+        self.assertTrue(self.good(rows, program, ONE))
+        self.assertFalse(self.good([*rows, ({("load", 1): 2}, [("load", 1, ())])], program, ONE))
+        self.assertTrue(self.good([*rows, ({("load", 0): 1, ("load", 1): 1}, order[::-1])], program, ONE))
+
     def test_bent_rows(self):
         for at, (jobs, order) in enumerate(self.rows):
             def bent(row):
