@@ -6,7 +6,9 @@ from leastpools.nets import Net
 from leastpools.programs import check_program
 from leastpools.searching import Search
 from leastpools.sizes import Sizes
-from leastpools.vectors import greater, how_many_to, is_within, lesser, sizes_of, vector_of, vectors_to, with_amount
+from leastpools.vectors import (
+    greater, how_many_to, is_within, lesser, sizes_of, vector_of, vectors_between, vectors_to, with_amount,
+)
 
 MOST_ON_GRID = 400
 
@@ -20,11 +22,12 @@ def caps(program):
     return total
 
 
-def good_vectors(program, greatest):
-    """A dict from the vectors of the grid, in its order, to whether they are good."""
+def good_vectors(program, lowest):
+    """A dict from the vectors from the lowest to the caps, in the order of the grid, to whether they are good."""
+    greatest = vector_of(program.pools, caps(program))
     search = Search(Net(program), greatest)
-    masks = Masks(greatest)
-    return unset_in(bad_mask(search, masks), greatest)
+    masks = Masks(lowest, greatest)
+    return unset_in(bad_mask(search.edges(), masks), vectors_between(lowest, greatest))
 
 
 def check_grid(greatest):
@@ -56,7 +59,7 @@ class Goods:
         self._pools = program.pools
         self._greatest = vector_of(self._pools, self._caps)
         check_grid(self._greatest)
-        self._told = good_vectors(program, self._greatest)
+        self._told = good_vectors(program, [0 for _ in self._pools])
         self._good = [sizes_of(self._pools, vector) for vector in self._told if self._told[vector]]
         flat = [flat_from(self._told, at, most) for at, most in enumerate(self._greatest)]
         self._tight = sizes_of(self._pools, flat)

@@ -57,6 +57,10 @@ class Labels:
         """All bare states, the nearest ones first."""
         return list(self._bare_states)
 
+    def edges(self):
+        """For each state a list of tuples (peak, index of the state behind) of its moves."""
+        return [list(row) for row in self._edges]
+
     def _numbers_of(self, bare):
         # The labels of a bare state by their peaks.
         if bare not in self._indexes:

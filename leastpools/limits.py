@@ -46,7 +46,7 @@ def told_limits(program, sizes):
     highest = tuple([most for _ in program.jobs])
     net = Net(with_limits(program, highest))
     search = Search(net, vector_of(program.pools, sizes))
-    masks = Masks(highest)
+    masks = Masks([0 for _ in highest], highest)
     # A state can be there with just the limits that are at least its counts.
     counts = [masks.at_least(net.counts_of(bare)) for bare in search.bare_states()]
     edges = [[(counts[later], later, peak is not None) for peak, later in row] for row in search.edges()]
@@ -55,7 +55,7 @@ def told_limits(program, sizes):
     for index, mask in enumerate(reach):
         if search.is_dead(index):
             bad = bad | mask
-    return unset_in(bad, highest)
+    return unset_in(bad, vectors_to(highest))
 
 
 def changed_by(limits, told, by):

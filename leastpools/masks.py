@@ -5,25 +5,36 @@ reached with some sizes is reached with greater ones, too, so one search with
 the greatest sizes meets all states, and masks tell where each is reached.
 """
 
-from leastpools.vectors import vectors_to
+from leastpools.vectors import vectors_between
 
 
 class Masks:
-    """Masks of the vectors of a grid that have at least so much."""
+    """Masks of the vectors from the lowest to the greatest one."""
 
-    def __init__(self, greatest):
-        vectors = vectors_to(greatest)
+    def __init__(self, lowest, greatest):
+        vectors = vectors_between(lowest, greatest)
         self.all_set = (1 << len(vectors)) - 1
+        self._lowest = lowest
+        # For each pool the masks of at least its lowest amount, one more, and so on; the last one is empty.
         self._rows = []
-        for pool, most in enumerate(greatest):
-            self._rows.append([mask_of([row[pool] >= least for row in vectors]) for least in range(most + 1)])
+        for pool, (least, most) in enumerate(zip(lowest, greatest)):
+            amounts = [vector[pool] for vector in vectors]
+            self._rows.append([mask_of([amount >= one for amount in amounts]) for one in range(least, most + 2)])
 
     def at_least(self, vector):
         """The mask of the vectors that have at least so much; all, if the vector is None."""
         mask = self.all_set
         if vector is not None:
-            for row, least in zip(self._rows, vector):
-                mask = mask & row[least]
+            for row, lowest, amount in zip(self._rows, self._lowest, vector):
+                mask = mask & row[min(max(0, amount - lowest), len(row) - 1)]
+        return mask
+
+    def at_most(self, vector):
+        """The mask of the vectors that have at most so much; an amount that is None is no end."""
+        mask = self.all_set
+        for row, lowest, amount in zip(self._rows, self._lowest, vector):
+            if amount is not None:
+                mask = mask & ~row[min(max(0, amount + 1 - lowest), len(row) - 1)]
         return mask
 
 
@@ -36,15 +47,15 @@ def mask_of(answers):
     return mask
 
 
-def unset_in(mask, greatest):
-    """A dict from all vectors up to the greatest, in order, to whether their bit is not set in a mask."""
-    return {vector: (mask >> index) & 1 == 0 for index, vector in enumerate(vectors_to(greatest))}
+def unset_in(mask, vectors):
+    """A dict from some vectors, in order, to whether their bit is not set in a mask."""
+    return {vector: (mask >> index) & 1 == 0 for index, vector in enumerate(vectors)}
 
 
-def masked_edges(search, masks):
+def masked_edges(edges, masks):
     """For each state a list of tuples (mask, index of the state behind, whether it takes) of its moves."""
     rows = []
-    for row in search.edges():
+    for row in edges:
         rows.append([(masks.at_least(peak), later, peak is not None) for peak, later in row])
     return rows
 
@@ -66,15 +77,24 @@ def reach_of(edges, masks):
     return reach
 
 
-def bad_mask(search, masks):
-    """The mask of the vectors with which some state is reached that has jobs, but no move that takes."""
-    edges = masked_edges(search, masks)
+def dead_masks(edges, masks):
+    """For each state the mask of the vectors with which it is reached and has jobs, but no move that takes."""
+    edges = masked_edges(edges, masks)
     reach = reach_of(edges, masks)
-    bad = 0
+    # The state without jobs stands first.
+    dead = [0]
     for index in range(1, len(edges)):
         taking = 0
         for mask, _, takes in edges[index]:
             if takes:
                 taking = taking | mask
-        bad = bad | (reach[index] & ~taking)
+        dead.append(reach[index] & ~taking)
+    return dead
+
+
+def bad_mask(edges, masks):
+    """The mask of the vectors with which some state is reached that has jobs, but no move that takes."""
+    bad = 0
+    for mask in dead_masks(edges, masks):
+        bad = bad | mask
     return bad

@@ -20,11 +20,15 @@ def rows_of_one(program, places):
     return told
 
 
+def rows_of_jobs(program, jobs):
+    """A dict from all rows of some jobs to what is told of them."""
+    one = rows_of_one(program, list(jobs))
+    return {row: (want, times(held, jobs[row[:2]]), inside) for row, (want, held, inside) in one.items()}
+
+
 def rows_of(state):
     """A dict from all rows of a state to what is told of them."""
-    jobs = state.jobs_by_position()
-    one = rows_of_one(state.program, list(jobs))
-    return {row: (want, times(held, jobs[row[:2]]), inside) for row, (want, held, inside) in one.items()}
+    return rows_of_jobs(state.program, state.jobs_by_position())
 
 
 def is_row(told, thing):

@@ -51,17 +51,27 @@ def with_amount(vector, at, amount):
     return vector[:at] + (amount,) + vector[at + 1:]
 
 
+def vectors_between(lowest, greatest):
+    """All vectors with amounts from the lowest to the greatest, in ascending order."""
+    rows = [()]
+    for least, most in zip(lowest, greatest):
+        rows = [(*row, amount) for row in rows for amount in range(least, most + 1)]
+    return rows
+
+
 def vectors_to(greatest):
     """All vectors with amounts from 0 to the greatest, in ascending order."""
-    rows = [()]
-    for most in greatest:
-        rows = [(*row, amount) for row in rows for amount in range(most + 1)]
-    return rows
+    return vectors_between([0 for _ in greatest], greatest)
+
+
+def how_many_between(lowest, greatest):
+    """How many vectors have amounts from the lowest to the greatest."""
+    many = 1
+    for least, most in zip(lowest, greatest):
+        many = many * (most - least + 1)
+    return many
 
 
 def how_many_to(greatest):
     """How many vectors have amounts from 0 to the greatest."""
-    many = 1
-    for most in greatest:
-        many = many * (most + 1)
-    return many
+    return how_many_between([0 for _ in greatest], greatest)
