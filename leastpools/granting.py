@@ -28,6 +28,12 @@ def unsafe_moves(state, moves):
     return [move for move in moves if not is_safe(state >> move)]
 
 
+def is_let_through(state, move):
+    """Whether a careful runtime lets the grant through of which a move is one that is possible."""
+    grant = grant_of(move)
+    return len(unsafe_moves(state, [one for one in state.moves() if grant_of(one) == grant])) == 0
+
+
 def careful_moves(state):
     """Yield the moves, in order, whose grant is let through."""
     check_state(state)

@@ -6,13 +6,40 @@ from leastpools.searching import MOST_STATES
 from leastpools.vectors import less_by, times
 
 
-class CarefulSearch:
-    """The bare states [nets.py] that are reached by careful moves, the nearest ones first."""
+class Guard:
+    """Which bare states [nets.py] are safe [17] with some sizes, each worked out once."""
 
     def __init__(self, net, sizes):
         self._net = net
         self._sizes = sizes
-        self._safe = {}
+        self._known = {}
+
+    def lets(self, bare):
+        """Whether a bare state is safe."""
+        if bare not in self._known:
+            descent = Descent(self._falls_in(bare), less_by(self._sizes, self._net.held_in(bare)))
+            descent.fall_all()
+            self._known[bare] = len(descent.left()) == 0
+        return self._known[bare]
+
+    def _falls_in(self, bare):
+        told = {}
+        for place in bare:
+            if (place, ()) not in told:
+                many = bare.count(place)
+                for strand, rows, inside in self._net.falls_at(place):
+                    together = [(need, times(given, many)) for need, given in rows]
+                    told[(place, strand)] = (together, [(place, part) for part in inside])
+        return told
+
+
+class CarefulSearch:
+    """The bare states that are reached by careful moves, the nearest ones first."""
+
+    def __init__(self, net, sizes):
+        self._net = net
+        self._sizes = sizes
+        self._guard = Guard(net, sizes)
         self._states = [()]
         self._met = {(): True}
         self._price = 0
@@ -31,7 +58,7 @@ class CarefulSearch:
 
     def _go_on_from(self, bare):
         for behind in self._behind_grants(bare):
-            if all([self._is_safe(later) for later in behind]):
+            if all([self._guard.lets(later) for later in behind]):
                 for later in behind:
                     self._meet(later)
             else:
@@ -51,20 +78,3 @@ class CarefulSearch:
             raise TooMany(MOST_STATES)
         self._met[bare] = True
         self._states.append(bare)
-
-    def _is_safe(self, bare):
-        if bare not in self._safe:
-            descent = Descent(self._told_of(bare), less_by(self._sizes, self._net.held_in(bare)))
-            descent.fall_all()
-            self._safe[bare] = len(descent.left()) == 0
-        return self._safe[bare]
-
-    def _told_of(self, bare):
-        told = {}
-        for place in bare:
-            if (place, ()) not in told:
-                many = bare.count(place)
-                for strand, rows, inside in self._net.falls_at(place):
-                    together = [(need, times(given, many)) for need, given in rows]
-                    told[(place, strand)] = (together, [(place, part) for part in inside])
-        return told

@@ -88,6 +88,18 @@ class Net:
                             found.append(((place, strand, one), peak, with_place(rest, one)))
         return found
 
+    def ways_in(self):
+        """For each job of the program the places at which a new one may rest."""
+        return [list(row) for row in self._ways_in]
+
+    def takes_at(self, place):
+        """Tuples (strand, want, later places) of the strands at a place that wait at takes."""
+        return list(self._takes[place])
+
+    def held_at(self, place):
+        """What a job at a place holds."""
+        return self._amounts_held[place]
+
     def grant_of(self, move):
         """What the moves have in common that are one grant [18]."""
         place, strand, later = move

@@ -232,8 +232,13 @@ class TestLanguage(unittest.TestCase):
             for node in ast.walk(tree):
                 if isinstance(node, ast.Call) and isinstance(node.func, ast.Attribute):
                     self.assertIn(node.func.attr, methods | METHODS, (name, node.lineno))
+            # What is taken from a table has a name of its own before it is called.
+            tables = {part.targets[0].id for part in tree.body if isinstance(part, ast.Assign) and isinstance(part.value, ast.Dict)}
+            told = {part.targets[0].id for part in ast.walk(tree) if isinstance(part, ast.Assign) and isinstance(part.value, ast.Subscript)
+                    and isinstance(part.value.value, ast.Name) and part.value.value.id in tables}
+            for node in ast.walk(tree):
                 if isinstance(node, ast.Call) and isinstance(node.func, ast.Name):
-                    self.assertIn(node.func.id, BUILTINS | own, (name, node.lineno))
+                    self.assertIn(node.func.id, BUILTINS | own | told, (name, node.lineno))
 
     def test_methods_and_attributes(self):
         stored, plain, properties = set(), set(), set()
