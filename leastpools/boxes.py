@@ -9,9 +9,9 @@ from leastpools.nets import Net
 from leastpools.peaks import followed
 from leastpools.programs import check_program
 from leastpools.sizes import Sizes
-from leastpools.stuck import is_stuck
+from leastpools.strands import are_stuck
 from leastpools.values import is_integer
-from leastpools.vectors import is_within, lesser, sizes_of, vector_of, vectors_to
+from leastpools.vectors import is_within, lesser, vector_of, vectors_to
 
 
 def are_ends(program, low, thing):
@@ -24,7 +24,7 @@ def are_ends(program, low, thing):
 
 
 def greatest_in(program, low, ends):
-    """The greatest Sizes of a box; where there is no end, more than these changes nothing."""
+    """The greatest amounts of a box, as a vector; where there is no end, more than these changes nothing."""
     told = []
     most = caps(program)
     for pool in program.pools:
@@ -32,7 +32,7 @@ def greatest_in(program, low, ends):
         if amount is None:
             amount = max(most[pool], low[pool])
         told.append(amount)
-    return sizes_of(program.pools, told)
+    return told
 
 
 def lets_box(program, thing):
@@ -43,11 +43,11 @@ def lets_box(program, thing):
     low, ends, moves = thing
     if not isinstance(low, Sizes) or not are_ends(program, low, ends) or not isinstance(moves, list):
         return False
-    peak, state, index = followed(program, moves)
+    peak, jobs, index = followed(program, moves)
     # A run is possible just where its peak fits.
     if index is not None or not is_within(peak, vector_of(program.pools, low)):
         return False
-    return is_stuck(state.at_sizes(greatest_in(program, low, ends)))
+    return are_stuck(program, jobs, greatest_in(program, low, ends))
 
 
 def are_boxes(program, thing):

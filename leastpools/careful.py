@@ -13,8 +13,9 @@ from leastpools.vectors import added, is_within, sizes_of, times
 def falls(program, name, position):
     """Tuples (strand, rows) with the falls of the strands, as tuples (need, given) of Sizes."""
     check_program(program)
-    rows_by_strand = program.code(name).falls_at(position)
-    return [(strand, in_sizes(program.pools, rows)) for strand, rows in rows_by_strand]
+    code = program.code(name)
+    code.check(position)
+    return [(strand, in_sizes(program.pools, rows)) for strand, rows in code.falls_at(position)]
 
 
 def in_sizes(pools, rows):

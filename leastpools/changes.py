@@ -2,6 +2,7 @@
 
 from leastpools.errors import InvalidProgram
 from leastpools.paths import is_path, paths_of, replaced, statement_at
+from leastpools.programs import Program, changed
 from leastpools.values import is_one_of, word_of
 
 # The words of edits, each with the number of its parts; those of statements
@@ -21,27 +22,32 @@ def is_edit_form(program, thing):
 
 def behind_edit(program, edit):
     """The program behind an edit of this form, or None if the edit is none of the program."""
-    word, name = edit[:2]
-    if word == "fewer":
-        if program.limit(name) < 2:
+    name = edit[1]
+    limit, code = [(limit, code) for one, limit, code in program.jobs if one == name][0]
+    if edit[0] == "fewer":
+        if limit < 2:
             return None
-        return program.with_limit(name, program.limit(name) - 1)
-    code = raw_code(program, name)
+        return program_of(program.pools, with_job(program, name, limit - 1, code))
     statement = statement_at(code, edit[2])
     if statement is None:
         return None
-    some = instead_of(statement, word, edit[-1])
+    some = instead_of(statement, edit[0], edit[-1])
     if some is None:
         return None
+    return program_of(program.pools, with_job(program, name, limit, replaced(code, edit[2], some)))
+
+
+def program_of(pools, jobs):
+    """The program with these pools and jobs, or None if there is none."""
     try:
-        return program.with_code(name, replaced(code, edit[2], some))
+        return Program(pools, jobs)
     except InvalidProgram:
         return None
 
 
-def raw_code(program, name):
-    """The code of a job, as a tuple."""
-    return [code for one, _, code in program.jobs if one == name][0]
+def with_job(program, name, limit, code):
+    """The jobs of a program, with another limit and code of one."""
+    return tuple([changed(job, name, limit, code) for job in program.jobs])
 
 
 def instead_of(statement, word, pool):
@@ -97,42 +103,63 @@ def edits_of_statement(program, name, path):
     return found
 
 
-def possible_edits(program):
-    """All values that have the form of an edit and a path that leads to a statement, in order."""
+def possible_changes(program):
+    """Tuples (edit, jobs behind it) for all edits of a program, in order; some of the jobs may make no program."""
     found = []
-    for name, _, code in program.jobs:
-        found.append(("fewer", name))
-        for path, _ in paths_of(code):
-            found.extend(edits_of_statement(program, name, path))
+    for name, limit, code in program.jobs:
+        if limit > 1:
+            found.append((("fewer", name), with_job(program, name, limit - 1, code)))
+        for path, statement in paths_of(code):
+            for edit in edits_of_statement(program, name, path):
+                some = instead_of(statement, edit[0], edit[-1])
+                if some is not None:
+                    found.append((edit, with_job(program, name, limit, replaced(code, path, some))))
     return found
 
 
-def edits_with_programs(program):
-    """Tuples (edit, program behind it) of all edits of a program, in order."""
-    rows = [(edit, behind_edit(program, edit)) for edit in possible_edits(program)]
-    return [(edit, later) for edit, later in rows if later is not None]
+class Variants:
+    """A program and those behind lists of edits of it, each made once.
 
-
-class Edited:
-    """The programs behind lists of edits of a program, each made once."""
+    Different lists often lead to one program. It is told by its key, a text.
+    """
 
     def __init__(self, program):
-        self._program = program
-        self._known = {(): program}
+        self._pools = program.pools
+        self._programs = {str(program.jobs): program}
+        self._edits = {}
 
-    def behind(self, thing):
-        """The program behind a list of edits, or None if a value is no such list."""
-        # The form comes first: True is equal to 1, and a list is no key.
-        if not isinstance(thing, list) or not all([is_edit_form(self._program, edit) for edit in thing]):
+    def first_key(self):
+        """The key of the program itself."""
+        return list(self._programs)[0]
+
+    def program_at(self, key):
+        """The program with a key."""
+        return self._programs[key]
+
+    def keys_by_edit(self, key):
+        """A dict from all edits of the program with a key, in order, to the keys of the programs behind them."""
+        if key not in self._edits:
+            rows = [(edit, self._key_of(jobs)) for edit, jobs in possible_changes(self._programs[key])]
+            self._edits[key] = {edit: later for edit, later in rows if later is not None}
+        return {edit: later for edit, later in self._edits[key].items()}
+
+    def _key_of(self, jobs):
+        # None if the jobs make no program.
+        key = str(jobs)
+        if key not in self._programs:
+            self._programs[key] = program_of(self._pools, jobs)
+        if self._programs[key] is None:
             return None
-        for many in range(len(thing)):
-            self._learn(tuple(thing[:many]), thing[many])
-        return self._known[tuple(thing)]
+        return key
 
-    def _learn(self, some, edit):
-        longer = (*some, edit)
-        if longer not in self._known:
-            later = None
-            if self._known[some] is not None:
-                later = behind_edit(self._known[some], edit)
-            self._known[longer] = later
+    def key_behind(self, thing):
+        """The key of the program behind a list of edits, or None if a value is no such list."""
+        if not isinstance(thing, list):
+            return None
+        key = self.first_key()
+        for edit in thing:
+            # The form comes first: True is equal to 1, and a list is no key.
+            if key is None or not is_edit_form(self._programs[key], edit):
+                return None
+            key = self.keys_by_edit(key).get(edit, None)
+        return key

@@ -4,8 +4,8 @@ from leastpools.grids import caps
 from leastpools.labels import Labels
 from leastpools.masks import Masks, dead_masks
 from leastpools.nets import Net
-from leastpools.strands import freed, rows_of_jobs
-from leastpools.vectors import is_within, less_by, sizes_of, vector_of, vectors_between, with_amount
+from leastpools.strands import are_stuck
+from leastpools.vectors import is_within, sizes_of, vector_of, vectors_between, with_amount
 
 
 class Cover:
@@ -51,11 +51,10 @@ class Cover:
 
     def _raised(self, bare, vector):
         # Sizes as great as can be, one pool after another, with which there still is a stuck strand.
-        told = rows_of_jobs(self._program, self._net.jobs_of(bare))
-        held = self._net.held_in(bare)
+        jobs = self._net.jobs_of(bare)
         for at, most in enumerate(self._greatest):
             more = with_amount(vector, at, vector[at] + 1)
-            while vector[at] < most and len(freed(told, less_by(more, held))) < len(told):
+            while vector[at] < most and are_stuck(self._program, jobs, more):
                 vector = more
                 more = with_amount(vector, at, vector[at] + 1)
         return vector

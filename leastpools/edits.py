@@ -1,6 +1,6 @@
 """Changes of programs, and what is gained by them [20]."""
 
-from leastpools.changes import behind_edit, edits_with_programs, is_edit_form
+from leastpools.changes import behind_edit, is_edit_form, possible_changes, program_of
 from leastpools.errors import InvalidEdit
 from leastpools.grids import Goods
 from leastpools.programs import check_program
@@ -9,8 +9,9 @@ from leastpools.programs import check_program
 def edits(program):
     """Yield all edits of a program, in order."""
     check_program(program)
-    for edit, _ in edits_with_programs(program):
-        yield edit
+    for edit, jobs in possible_changes(program):
+        if program_of(program.pools, jobs) is not None:
+            yield edit
 
 
 def edited(program, edit):

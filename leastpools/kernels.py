@@ -5,7 +5,8 @@ from leastpools.grids import caps, check_grid
 from leastpools.peaks import followed
 from leastpools.programs import check_program
 from leastpools.runs import Run
-from leastpools.stuck import is_stuck, stuck_set
+from leastpools.strands import are_stuck
+from leastpools.stuck import stuck_set
 from leastpools.vectors import is_within, sizes_of, vector_of, vectors_to
 
 
@@ -16,12 +17,12 @@ def spread(program, moves):
     check_grid(greatest)
     if not isinstance(moves, list):
         raise NoMove(moves)
-    peak, state, index = followed(program, moves)
+    peak, jobs, index = followed(program, moves)
     # What is impossible with the caps is impossible with all sizes.
     if index is not None:
         return []
-    fitting = [sizes_of(program.pools, vector) for vector in vectors_to(greatest) if is_within(peak, vector)]
-    return [sizes for sizes in fitting if is_stuck(state.at_sizes(sizes))]
+    fitting = [vector for vector in vectors_to(greatest) if is_within(peak, vector)]
+    return [sizes_of(program.pools, vector) for vector in fitting if are_stuck(program, jobs, vector)]
 
 
 def kernel(run):

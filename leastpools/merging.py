@@ -60,10 +60,8 @@ class Track:
     def _goes_on(self, code, position, steps):
         # Whether all steps can come one after another.
         for strand, later in steps:
-            want = want_at(code, position, strand)
-            if want is None or (later is not None and not code.knows(later)):
-                return False
-            if later not in code.after(position, strand):
+            want = want_of_step(code, position, strand, later)
+            if want is None:
                 return False
             self._add(code, ("take", self.job, position, strand, later), want)
             position = later
@@ -74,12 +72,14 @@ class Track:
         return many > 0 and self.doing[many - 1][-1] is not None
 
 
-def want_at(code, position, thing):
-    """What a strand wants that waits at a take, as a vector; None if a value is no such strand."""
-    if position is None or not is_strand(thing):
+def want_of_step(code, position, strand, later):
+    """What is wanted in a step from a position, as a vector; None if values are no such step."""
+    if position is None or not is_strand(strand) or (later is not None and not code.knows(later)):
         return None
-    wants = {strand: want for strand, want in code.vectors_wanted(position)}
-    return wants.get(thing, None)
+    for one, want, positions in code.ways_on(position):
+        if one == strand and later in positions:
+            return want
+    return None
 
 
 class Merge:

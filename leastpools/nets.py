@@ -32,17 +32,19 @@ class Net:
         return [self._numbers[(name, position)] for position in first if position is not None]
 
     def _takes_at(self, name, position):
-        code = self._program.code(name)
         takes = []
-        for strand, want in code.vectors_wanted(position):
-            later = [self._number_of(name, one) for one in code.after(position, strand)]
-            takes.append((strand, want, later))
+        for strand, want, later in self._program.code(name).ways_on(position):
+            takes.append((strand, want, [self._number_of(name, one) for one in later]))
         return takes
 
     def _number_of(self, name, position):
         if position is None:
             return None
         return self._numbers[(name, position)]
+
+    def all_places(self):
+        """All places, tuples (name, position)."""
+        return list(self._places)
 
     def held_in(self, bare):
         """What all jobs hold."""

@@ -153,14 +153,20 @@ def merged(one, other):
 
 
 def reachable(ways, most):
-    """All positions that can be reached; some of them, if they are more than most."""
-    found = {position: True for position in ways.first() if position is not None}
+    """A dict from all positions that can be reached to lists of tuples (strand, number, later positions).
+
+    They are told of the strands that wait at takes. If there are more than
+    most positions, some are left out, and nothing is told of some.
+    """
+    found = {position: [] for position in ways.first() if position is not None}
     waiting = list(found)
     while len(waiting) > 0 and len(found) <= most:
         position = waiting.pop()
-        for strand, _ in takers_in(position):
-            for later in ways.after(position, strand):
-                if later is not None and later not in found:
-                    found[later] = True
-                    waiting.append(later)
-    return list(found)
+        rows = [(strand, number, ways.after(position, strand)) for strand, number in takers_in(position)]
+        found[position] = rows
+        for _, _, later in rows:
+            for one in later:
+                if one is not None and one not in found:
+                    found[one] = []
+                    waiting.append(one)
+    return found

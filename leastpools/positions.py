@@ -59,9 +59,13 @@ def part_of(position, strand):
     return position
 
 
-def takers_in(position):
+def takers_in(position, strand=()):
     """Tuples (strand, number) of the strands that wait at takes."""
-    return [row for row in waiting_in(position) if not isinstance(part_of(position, row[0]), tuple)]
+    if position is None:
+        return []
+    if not isinstance(position, tuple):
+        return [(strand, position)]
+    return takers_in(position[1], (*strand, 0)) + takers_in(position[2], (*strand, 1))
 
 
 def inside_of(position, strand):

@@ -39,10 +39,9 @@ def codes_by_name(pools, jobs):
     told = {}
     codes = Codes(pools)
     for index, (name, _, code) in enumerate(jobs):
-        made = codes.made(code)
+        made = codes.learn(name, code)
         if made is None:
             raise InvalidProgram(index)
-        codes.learn(name, code)
         told[name] = made
     return told
 

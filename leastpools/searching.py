@@ -38,6 +38,10 @@ class Search:
         """All bare states."""
         return list(self._states)
 
+    def how_many(self):
+        """How many bare states can be reached."""
+        return len(self._states)
+
     def edges(self):
         """For each state a list of tuples (peak, index of the state behind) of its moves."""
         return [list(row) for row in self._edges]

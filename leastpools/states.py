@@ -1,7 +1,7 @@
 """States: how many jobs rest at which position, with pools of some sizes [9]."""
 
 from leastpools.errors import InvalidSizes, InvalidState, NoJob, NoMove
-from leastpools.positions import is_strand, order_of
+from leastpools.positions import is_strand
 from leastpools.programs import Program
 from leastpools.sizes import Sizes
 from leastpools.values import is_integer, word_of
@@ -49,8 +49,8 @@ def are_resting(program, sizes, thing):
 def in_order(program, jobs):
     """The same jobs, by the order of the jobs of the program, then of the positions."""
     names = program.names()
-    rows = sorted([(names.index(name), order_of(position), name, position) for name, position in jobs])
-    return {(name, position): jobs[(name, position)] for _, _, name, position in rows}
+    rows = [(names.index(place[0]), program.code(place[0]).index_of(place[1]), place) for place in jobs]
+    return {place: jobs[place] for _, _, place in sorted(rows)}
 
 
 def with_one_more(jobs, key):
@@ -93,6 +93,7 @@ class State:
         self._jobs = in_order(program, jobs)
         self._held = sizes_of(program.pools, held_by_jobs(program, jobs))
         self._free = sizes - self._held
+        self._spare = vector_of(program.pools, self._free)
 
     @property
     def program(self):
@@ -153,9 +154,9 @@ class State:
             for position in self._entries(name):
                 yield ("enter", name, position)
         for name, position in self._jobs:
-            for strand in self._strands_that_can(name, position):
-                for later in self._program.code(name).after(position, strand):
-                    yield ("take", name, position, strand, later)
+            for strand, later in self._ways_open(name, position):
+                for one in later:
+                    yield ("take", name, position, strand, one)
 
     def without(self, name, position):
         """The state without one of the jobs at a position."""
@@ -172,8 +173,10 @@ class State:
             return []
         return [position for position in self._program.code(name).first() if position is not None]
 
-    def _strands_that_can(self, name, position):
-        return [strand for strand, want in self._program.code(name).takers(position) if want.fits(self._free)]
+    def _ways_open(self, name, position):
+        # The strands that can take, with the later positions.
+        rows = self._program.code(name).ways_on(position)
+        return [(strand, later) for strand, want, later in rows if is_within(want, self._spare)]
 
     def _can_enter(self, name, position):
         if not is_place(self._program, (name, position)):
@@ -182,12 +185,9 @@ class State:
 
     def _can_take(self, move):
         _, name, position, strand, later = move
-        if not is_strand(strand) or strand not in self._strands_that_can(name, position):
+        if not is_strand(strand) or (later is not None and not self._program.code(name).knows(later)):
             return False
-        code = self._program.code(name)
-        if later is not None and not code.knows(later):
-            return False
-        return later in code.after(position, strand)
+        return any([one == strand and later in ways for one, ways in self._ways_open(name, position)])
 
 
 def empty_state(program, sizes):

@@ -7,23 +7,42 @@ right inside it. Amounts are vectors in the order of the pools.
 """
 
 from leastpools.positions import is_shaped, is_strand
+from leastpools.states import held_by_jobs
 from leastpools.vectors import added, is_within, less_by, times, vector_of
+
+
+def rows_by_place(program, places):
+    """A dict from some places to lists of tuples (row, want, gives, inside), if one job is at each."""
+    told = {}
+    for name, position in places:
+        rows = []
+        for strand, want, held, inside in program.code(name).strands(position):
+            rows.append(((name, position, strand), want, held, [(name, position, part) for part in inside]))
+        told[(name, position)] = rows
+    return told
 
 
 def rows_of_one(program, places):
     """A dict from all rows of some places to what is told of them, if one job is at each."""
     told = {}
-    for name, position in places:
-        for strand, want, held, inside in program.code(name).strands(position):
-            rows = [(name, position, part) for part in inside]
-            told[(name, position, strand)] = (want, held, rows)
+    for rows in list(rows_by_place(program, places).values()):
+        for row, want, held, inside in rows:
+            told[row] = (want, held, inside)
+    return told
+
+
+def rows_together(by_place, jobs):
+    """A dict from all rows of some jobs to what is told of them, by what is told of one job at each place."""
+    told = {}
+    for place, many in jobs.items():
+        for row, want, held, inside in by_place[place]:
+            told[row] = (want, times(held, many), inside)
     return told
 
 
 def rows_of_jobs(program, jobs):
     """A dict from all rows of some jobs to what is told of them."""
-    one = rows_of_one(program, list(jobs))
-    return {row: (want, times(held, jobs[row[:2]]), inside) for row, (want, held, inside) in one.items()}
+    return rows_together(rows_by_place(program, list(jobs)), jobs)
 
 
 def rows_of(state):
@@ -37,6 +56,13 @@ def is_row(told, thing):
     if not isinstance(thing, tuple) or len(thing) != 3 or not isinstance(thing[0], str):
         return False
     return is_shaped(thing[1]) and is_strand(thing[2]) and thing in told
+
+
+def are_stuck(program, jobs, amounts):
+    """Whether some jobs, which hold at most these amounts, have a stuck strand with them."""
+    told = rows_of_jobs(program, jobs)
+    free = less_by(amounts, held_by_jobs(program, jobs))
+    return len(freed(told, free)) < len(told)
 
 
 def can_go(told, row, free, gone):

@@ -1,67 +1,55 @@
 """Whether sizes are good, with papers that can be checked [12]."""
 
-from leastpools.nets import Net
-from leastpools.searching import Search
+from leastpools.judging import Judge
 from leastpools.states import State, empty_state
-from leastpools.stuck import freeing_order, is_stuck
 from leastpools.tables import Table
 from leastpools.vectors import vector_of
+from leastpools.walks import Walk
 
 
-def search_of(program, sizes):
-    """The search through all states; raises as State, then TooMany."""
+def judge_of(program, sizes):
+    """The judge of sizes; raises as State, then TooMany."""
     empty_state(program, sizes)
-    return Search(Net(program), vector_of(program.pools, sizes))
+    return Judge(program, vector_of(program.pools, sizes))
 
 
 def reached(program, sizes):
     """Yield all states that can be reached, the nearest ones first."""
-    search = search_of(program, sizes)
-    net = Net(program)
-    for bare in search.bare_states():
-        yield State(program, sizes, net.jobs_of(bare))
+    judge = judge_of(program, sizes)
+    for jobs in judge.all_jobs():
+        yield State(program, sizes, jobs)
 
 
 def verdict(program, sizes):
     """A shortest run to a state with a stuck strand, or a table of all states."""
-    search = search_of(program, sizes)
-    net = Net(program)
-    rows = []
-    for index, bare in enumerate(search.bare_states()):
-        state = State(program, sizes, net.jobs_of(bare))
-        if is_stuck(state):
-            return ("stuck", [net.move_of(move) for move in search.moves_to(index)])
-        rows.append((state.jobs_by_position(), freeing_order(state)))
-    return ("good", rows)
+    return judge_of(program, sizes).told()
 
 
 def is_good(program, sizes):
     """Whether no state that can be reached has a stuck strand."""
-    search = search_of(program, sizes)
-    # A stuck strand stays so; when only stuck ones are left, no move takes.
-    return not any([search.is_dead(index) for index in range(len(search.bare_states()))])
+    return judge_of(program, sizes).lets()
 
 
 def lets_verdict(program, sizes, thing):
     """Whether a value is a right verdict."""
-    state = empty_state(program, sizes)
+    empty_state(program, sizes)
     if not isinstance(thing, tuple) or len(thing) != 2:
         return False
     word, rows = thing
     if not isinstance(word, str) or not isinstance(rows, list):
         return False
     if word == "stuck":
-        return lets_run(state, rows)
+        return lets_run(program, sizes, rows)
     return word == "good" and lets_table(program, sizes, rows)
 
 
-def lets_run(state, moves):
-    """Whether a list holds moves from a state to one with a stuck strand."""
+def lets_run(program, sizes, moves):
+    """Whether a list holds moves from the state without jobs to one with a stuck strand."""
+    walk = Walk(program, vector_of(program.pools, sizes))
     for move in moves:
-        if move not in state:
+        if not walk.goes(move):
             return False
-        state = state >> move
-    return is_stuck(state)
+    return walk.is_stuck_now()
 
 
 def lets_table(program, sizes, rows):
