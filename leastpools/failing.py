@@ -1,6 +1,5 @@
 """Jobs that fail, and jobs that give up and begin anew [23]."""
 
-from leastpools.errors import NoMove
 from leastpools.rings import Rings, jobs_begun_anew, repeats_of
 from leastpools.states import State, empty_state, is_place
 from leastpools.stuck import check_state
@@ -18,7 +17,7 @@ def rough_moves(state):
 
 def is_failure(state, thing):
     """Whether a value is a move by which a job fails."""
-    if word_of(thing) != "fail" or len(thing) != 3 or not is_place(state.program, thing[1:]):
+    if word_of(thing) != "fail" or not is_place(state.program, thing[1:]):
         return False
     return thing[1:] in state.jobs_by_position()
 
@@ -38,8 +37,6 @@ def behind_rough(state, move):
         return state.without(move[1], move[2])
     if is_repeat(state, move):
         return State(state.program, state.sizes, jobs_begun_anew(state.jobs_by_position(), move))
-    if move not in state:
-        raise NoMove(move)
     return state >> move
 
 

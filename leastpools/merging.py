@@ -1,7 +1,6 @@
 """Histories of single jobs [22], and the orders in which their moves are possible together."""
 
 from leastpools.errors import TooMany
-from leastpools.positions import is_strand
 from leastpools.searching import MOST_STATES
 from leastpools.values import is_integer
 from leastpools.vectors import is_within, less_by, with_amount
@@ -73,8 +72,8 @@ class Track:
 
 
 def want_of_step(code, position, strand, later):
-    """What is wanted in a step from a position, as a vector; None if values are no such step."""
-    if position is None or not is_strand(strand) or (later is not None and not code.knows(later)):
+    """What is wanted in a step from a position, as a vector; None if there is no such step."""
+    if position is None:
         return None
     for one, want, positions in code.ways_on(position):
         if one == strand and later in positions:

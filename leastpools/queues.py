@@ -143,7 +143,7 @@ class LineSearch:
         places = [(name, position) for name in program.names() for position in program.code(name).positions()]
         self._told = strands_told(program, places)
         self._lines = [((), ())]
-        self._indexes = {((), ()): 0}
+        self._met = {((), ()): True}
         self._origins = [None]
         index = 0
         while index < len(self._lines):
@@ -157,13 +157,13 @@ class LineSearch:
         bare = self._lines[index]
         for move in line_moves(self._program, self._told, bare, self._free_in(bare)):
             later = behind_move(bare, move)
-            if later not in self._indexes:
+            if later not in self._met:
                 self._meet(later, (index, move))
 
     def _meet(self, bare, origin):
         if len(self._lines) == MOST_STATES:
             raise TooMany(MOST_STATES)
-        self._indexes[bare] = len(self._lines)
+        self._met[bare] = True
         self._lines.append(bare)
         self._origins.append(origin)
 

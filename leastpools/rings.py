@@ -19,8 +19,9 @@ def ways_to_begin(program, name):
 
 def repeats_of(state):
     """The moves by which a job with a stuck strand gives up, by jobs and later positions."""
+    places = {row[:2]: True for row in stuck_set(state)}
     found = []
-    for name, position in {(name, position): True for name, position, _ in stuck_set(state)}:
+    for name, position in places:
         found.extend([("again", name, position, later) for later in ways_to_begin(state.program, name)])
     return found
 

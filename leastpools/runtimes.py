@@ -1,6 +1,6 @@
 """Runtimes: jobs with numbers [24], and the journals from which they are recovered [25]."""
 
-from leastpools.errors import InvalidLog, NoJob, NoMove
+from leastpools.errors import InvalidLog, NoMove
 from leastpools.granting import is_let_through
 from leastpools.journals import Journal, position_text, positions_by_text, strand_text, strands_by_text
 from leastpools.positions import is_strand
@@ -33,8 +33,6 @@ class Runtime:
 
     def enter(self, name, position):
         """Let a job begin; its number, or None if it stays outside."""
-        if name not in self._state.program:
-            raise NoJob(name)
         code = self._state.program.code(name)
         if not code.knows(position) or position not in code.first():
             raise NoMove(("enter", name, position))

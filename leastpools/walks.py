@@ -32,7 +32,7 @@ class Walk:
     def goes(self, move):
         """Do a move, if a value is one; whether it is."""
         word = word_of(move)
-        if word == "enter" and len(move) == 3:
+        if word == "enter":
             return self._lets_in(move)
         return word == "take" and len(move) == 5 and self._lets_take(move)
 

@@ -147,7 +147,7 @@ class TestForms(Case):
                          "sizes a 01", "sizes a 00", "sizes a 1000", "sizes a 1.0", "sizes abcdefghi 1", "sizes A 1", "sizes a 1  b 1", "sizes  ", "sizes a \u0661", "sizes \u00e9 1", "enter load 00", "enter load 01",
                          "enter load -1", "enter load 1000", "enter load +1", "enter load x", "enter load 0 0", "enter Load 0", "enter loadloadx 0", "enter l1 0", "enter  0", "enter load  0", "take 1 0 0", "take 1 .2 0",
                          "take 1 0. 0", "take 1 .. 0", "take 1 .0.1 0", "take 01 . 0", "take 1 . 00", "take x . 0", "take 1  0", "take . 1 0", "take 1 . 0 ", "take 1000 . 0", "fail 01", "fail -", "fail 1000", "fail",
-                         "fail 1 1", "fail \u0661", "fail \u00b2", "good yes", "run 1", "caps a", "stops  ", "word\r", "jobs\x00"):
+                         "fail 1 1", "fail .", "fail .0", "enter .0 0", "enter . 0", "enter load .", "take .1 . 0", "take 1 . .", "fail \u0661", "fail \u00b2", "good yes", "run 1", "caps a", "stops  ", "word\r", "jobs\x00"):
                 self.raises(InvalidCommand, line, console.run, line)
         for thing in ANYTHING:
             self.raises(InvalidCommand, thing, Console().run, thing)

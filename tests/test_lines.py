@@ -354,6 +354,16 @@ class TestStuck(Case):
         self.assertEqual(stuck_in_line(Line(program, Sizes({"a": 1, "b": 1}), there, asked)), [(0, ()), (0, (0,)), (1, ())])
         self.assertEqual(stuck_in_line(Line(program, Sizes({"a": 2, "b": 1}), there, asked)), [(0, ()), (0, (0,))])
 
+    def test_what_is_given_back_counts_once(self):
+        # Each of the first three waits for what the next one holds; the job at the both gives its one of a back once.
+        ring = "either { take a 3 { } } or { take a 1 { both { take b 1 { } } and { take b 1 { } } } }"
+        program = jobs("take c 1 { }", "take c 1 { take d 1 { } }", "take d 1 { take b 1 { } }", ring, pools="a b c d", limit=2)
+        there = (("one", 0), ("two", 1), ("three", 1), ("four", (2, 3, None)), ("four", 0))
+        asked = ((0, ()), (1, ()), (2, ()), (3, (0,)), (4, ()))
+        sizes = Sizes({"a": 2, "b": 2, "c": 1, "d": 1})
+        self.assertEqual(stuck_in_line(Line(program, sizes, there, asked)), [(4, ())])
+        self.assertEqual(stuck_in_line(Line(program, sizes("a"), there, asked)), [])
+
     def test_results_are_new(self):
         line = done(Line(ORDER, THREE), ("enter", "load", 0), ("enter", "save", 0), ("take", 0, (), 1))
         stuck_in_line(line).clear()

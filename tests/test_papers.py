@@ -184,6 +184,13 @@ class TestLetsReport(Case):
                 self.raises(InvalidPaper, rows, good_by_report, program, rows, ONE)
                 self.raises(InvalidSizes, None, good_by_report, program, rows, None)
 
+    def test_what_is_not_about_the_grid(self):
+        paper = ("verdict", {}, ("stuck", [("enter", "one", 0)]))
+        for program in (WIDE, LARGE):
+            self.assertIs(lets_paper(program, paper), True)
+            self.assertIs(lets_paper(program, paper_of_limits(program, {})), True)
+        self.assertEqual((floor_of(WIDE), floor_of(LARGE)), ({"a": 9, "b": 18}, {"a": 1}))
+
     def test_400(self):
         program = jobs("take a 1 { }", "take b 9 { } take a 9 { take a 9 { } } take b 1 { take b 9 { take b 9 { } } }")
         told = report(program)

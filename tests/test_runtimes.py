@@ -303,7 +303,7 @@ class TestRecovered(Case):
                       "enter " + "1" * 5000 + " load 0"):
             self.assertEqual(self.recovered(journal_of([event, "fail 1"]))[1], 0)
         for event in ("take 01 . 1", "take 1 .0 1", "take 1 1", "take 1 () 1", "take 1 . 01", "take 1 . +1", "take 1 . -", "take 1 . 0", "take 2 . 1", "take 1 . 1 1", "take 1 . ", "take 1", "fail 01", "fail 2", "fail",
-                      "fail 1 1", "fail +1", "fail -1", "fail 1 ", "take " + "9" * 5000 + " . 1", "take 1 . " + "1" * 5000):
+                      "fail 1 1", "give 1 . 1", "Take 1 . 1", "fail 1 . 1", "take 1 .", "leave 1", "fail +1", "fail -1", "fail 1 ", "take " + "9" * 5000 + " . 1", "take 1 . " + "1" * 5000):
             self.assertEqual(self.recovered(journal_of(["enter 1 load 0", event, "fail 1"]))[1], 1)
         lines = right.split("\n")
         for head in ("00 1151", "+0 1151", "0 01151", "0 +1151", "0 1152", "1 1151", "-0 1151", "0  1151", " 0 1151", "0 11124", "0 1151 "):

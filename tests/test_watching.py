@@ -182,6 +182,8 @@ class TestStops(Case):
         program = jobs("take a 2 { take a 2 { } }", limit=6)
         self.assertEqual(fewest_stops(State(program, Sizes({"a": 13}), {("one", 1): 6})), [("one", 1)])
         self.assertEqual(fewest_stops(State(program, Sizes({"a": 3}), {("one", 1): 1, ("one", 0): 2})), [("one", 0), ("one", 0), ("one", 1)])
+        for many in range(1, 7):
+            self.assertEqual(fewest_stops(State(program, Sizes({"a": 3}), {("one", 0): many})), [("one", 0)] * many)
 
     def test_12(self):
         program = jobs("take a 1 { }", "take b 1 { take b 1 { } }", "take b 1 { }", limit=6)
@@ -314,6 +316,10 @@ class TestMerged(Case):
             self.assertIsNone(merged(PROGRAM, Sizes({"a": 9, "b": 9}), [history]))
             self.assertIsNone(merged(PROGRAM, Sizes({"a": 9, "b": 9}), [SAVE, history]))
         self.assertIsNone(merged(PROGRAM.with_limit("load", 0), ONE, [LOAD]))
+        # Who may be over at once never rested.
+        program = jobs("either { } or { take a 1 { } }")
+        self.assertIsNone(merged(program, ONE, [("one", None, [])]))
+        self.assertEqual(len(merged(program, ONE, [("one", 0, [((), None)])])), 2)
 
     def test_no_histories(self):
         others = [("none", 0, []), ("load", 0), ("load", 0, [], 1), ["load", 0, []], ("load", 0, ()), ("load", 0, [((), 1, 1)]), ("load", 0, [[(), 1]]), ("load", 0, [((),)]),
