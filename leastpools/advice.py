@@ -5,7 +5,7 @@ from leastpools.errors import InvalidEdit, InvalidSizes
 from leastpools.judging import Judge
 from leastpools.programs import check_program
 from leastpools.sizes import Sizes
-from leastpools.values import is_between, word_of
+from leastpools.values import first_word, is_between
 from leastpools.vectors import vector_of
 from leastpools.verdicts import lets_verdict
 
@@ -105,7 +105,7 @@ def lets_advice(program, sizes, most, thing):
     """Whether a value shows what the fewest edits are, or that none help."""
     check_arguments(program, sizes, most)
     variants = Variants(program)
-    word = word_of(thing)
+    word = first_word(thing)
     if word == "none" and len(thing) == 2:
         return lets_tried(variants, sizes, most, thing[1])
     if word != "advice" or len(thing) != 4:

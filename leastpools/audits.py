@@ -2,7 +2,7 @@
 
 from leastpools.errors import InvalidLog, NoJob, NoMove
 from leastpools.runtimes import Runtime, recovered
-from leastpools.values import word_of
+from leastpools.values import first_word
 
 LENGTHS = {"enter": 3, "take": 4, "fail": 2}
 NO_ANSWER = "none"
@@ -10,7 +10,7 @@ NO_ANSWER = "none"
 
 def answer_to(runtime, request):
     """The answer of a runtime to a request; a word of its own if there is none."""
-    word = word_of(request)
+    word = first_word(request)
     if word not in LENGTHS or len(request) != LENGTHS[word]:
         return NO_ANSWER
     try:

@@ -3,7 +3,7 @@
 from leastpools.errors import InvalidProgram
 from leastpools.paths import is_path, paths_of, replaced, statement_at
 from leastpools.programs import Program, changed
-from leastpools.values import is_one_of, word_of
+from leastpools.values import first_word, is_one_of
 
 # The words of edits, each with the number of its parts; those of statements
 # stand in the order in which they are told of one statement.
@@ -12,7 +12,7 @@ PARTS = {"fewer": 2, "join": 3, "swap": 3, "part": 3, "early": 4, "serial": 3, "
 
 def is_edit_form(program, thing):
     """Whether a value has the form of an edit of a program."""
-    word = word_of(thing)
+    word = first_word(thing)
     if word not in PARTS or len(thing) != PARTS[word] or thing[1] not in program:
         return False
     if len(thing) > 2 and not is_path(thing[2]):

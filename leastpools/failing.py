@@ -3,7 +3,7 @@
 from leastpools.rings import Rings, jobs_begun_anew, repeats_of
 from leastpools.states import State, empty_state, is_place
 from leastpools.stuck import check_state
-from leastpools.values import word_of
+from leastpools.values import first_word
 
 
 def rough_moves(state):
@@ -17,7 +17,7 @@ def rough_moves(state):
 
 def is_failure(state, thing):
     """Whether a value is a move by which a job fails."""
-    if word_of(thing) != "fail" or not is_place(state.program, thing[1:]):
+    if first_word(thing) != "fail" or not is_place(state.program, thing[1:]):
         return False
     return thing[1:] in state.jobs_by_position()
 
@@ -25,7 +25,7 @@ def is_failure(state, thing):
 def is_repeat(state, thing):
     """Whether a value is a move by which a job gives up and begins anew."""
     # The form comes first: True is equal to 1.
-    if word_of(thing) != "again" or len(thing) != 4 or not is_place(state.program, thing[1:3]):
+    if first_word(thing) != "again" or len(thing) != 4 or not is_place(state.program, thing[1:3]):
         return False
     return is_place(state.program, (thing[1], thing[3])) and thing in repeats_of(state)
 
@@ -71,4 +71,4 @@ def leads_back(state, ring):
 
 def is_stay(state, thing):
     """Whether a value is a move that takes, and the job stays."""
-    return word_of(thing) == "take" and thing in state and thing[-1] is not None
+    return first_word(thing) == "take" and thing in state and thing[-1] is not None

@@ -5,7 +5,7 @@ from leastpools.pairs import Pairs, PairSearch
 from leastpools.positions import is_shaped, is_strand
 from leastpools.sizes import Sizes, are_amounts
 from leastpools.states import are_resting, empty_state
-from leastpools.values import is_one_of, word_of
+from leastpools.values import first_word, is_one_of
 
 FAULTS = ("over", "blind", "forget", "double", "careless", "hasty", "timid")
 
@@ -33,14 +33,14 @@ def lets_seen(program, sizes, word, thing):
     if not isinstance(thing, tuple) or len(thing) != 2 or not isinstance(thing[1], list):
         return False
     pairs = Pairs(program, sizes, word)
-    if word_of(thing) == "seen":
+    if first_word(thing) == "seen":
         return lets_requests(pairs, thing[1])
-    return word_of(thing) == "never" and lets_rows(pairs, program, sizes, thing[1])
+    return first_word(thing) == "never" and lets_rows(pairs, program, sizes, thing[1])
 
 
 def is_request(thing):
     """Whether a value has the form of a request."""
-    word = word_of(thing)
+    word = first_word(thing)
     if word not in ("enter", "take", "fail") or len(thing) < 3:
         return False
     # The form comes first: True is equal to 1, and a list is no key.

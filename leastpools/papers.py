@@ -7,7 +7,7 @@ from leastpools.limits import lets_limits, limits_paper
 from leastpools.programs import Program
 from leastpools.ranks import lets_ranks, ranks
 from leastpools.sizes import Sizes, are_amounts
-from leastpools.values import word_of
+from leastpools.values import first_word
 from leastpools.verdicts import lets_verdict, verdict
 
 
@@ -20,7 +20,7 @@ def check_paper_program(program):
 def lets_paper(program, thing):
     """Whether a value is a right paper for a program."""
     check_paper_program(program)
-    word = word_of(thing)
+    word = first_word(thing)
     if word == "ranks" and len(thing) == 2:
         return lets_ranks(program, thing[1])
     if word not in ("verdict", "limits") or len(thing) != 3 or not are_amounts(thing[1]):

@@ -9,7 +9,7 @@ numbered in the order of the first entries of each. Amounts are vectors.
 from leastpools.errors import TooMany
 from leastpools.positions import is_shaped, is_strand, takers_in
 from leastpools.searching import MOST_STATES
-from leastpools.values import is_integer, word_of
+from leastpools.values import first_word, is_integer
 from leastpools.vectors import added, is_within, less_by
 
 
@@ -85,7 +85,7 @@ def line_moves(program, told, bare, free):
 
 def is_line_move(thing):
     """Whether a value has the form of a move of a line."""
-    word = word_of(thing)
+    word = first_word(thing)
     if word == "enter" and len(thing) == 3:
         return isinstance(thing[1], str) and is_shaped(thing[2])
     if word != "take" or len(thing) != 4 or not is_integer(thing[1]) or not is_strand(thing[2]):

@@ -1,6 +1,6 @@
 """Which values are code [6], and how much waits in it."""
 
-from leastpools.values import all_differ, is_between, is_one_of, word_of
+from leastpools.values import all_differ, first_word, is_between, is_one_of
 
 MOST_INSIDE = 8
 MOST_TAKEN = 9
@@ -18,7 +18,7 @@ def is_code(code, pools, callees, depth=0, taken=()):
         return False
     left = {pool: number for pool, number in taken}
     for statement in code:
-        word = word_of(statement)
+        word = first_word(statement)
         if word not in LENGTHS or len(statement) != LENGTHS[word]:
             return False
         if word == "give":

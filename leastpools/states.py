@@ -4,7 +4,7 @@ from leastpools.errors import InvalidSizes, InvalidState, NoJob, NoMove
 from leastpools.positions import is_strand
 from leastpools.programs import Program
 from leastpools.sizes import Sizes
-from leastpools.values import is_integer, word_of
+from leastpools.values import first_word, is_integer
 from leastpools.vectors import added, is_within, sizes_of, times, vector_of
 
 
@@ -126,7 +126,7 @@ class State:
         return self._program == other._program and self._sizes == other._sizes and self._jobs == other._jobs
 
     def __contains__(self, x):
-        word = word_of(x)
+        word = first_word(x)
         if word == "enter" and len(x) == 3:
             return self._can_enter(x[1], x[2])
         if word == "take" and len(x) == 5 and is_place(self._program, x[1:3]):

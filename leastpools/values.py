@@ -16,7 +16,7 @@ def is_one_of(thing, words):
     return isinstance(thing, str) and thing in words
 
 
-def word_of(thing):
+def first_word(thing):
     """The string with which a tuple begins, or None."""
     if isinstance(thing, tuple) and len(thing) > 0 and isinstance(thing[0], str):
         return thing[0]

@@ -3,7 +3,7 @@
 from leastpools.positions import is_strand
 from leastpools.states import count_of, is_place, jobs_behind
 from leastpools.strands import are_stuck
-from leastpools.values import word_of
+from leastpools.values import first_word
 from leastpools.vectors import added, greater, is_within, less_by
 
 
@@ -31,7 +31,7 @@ class Walk:
 
     def goes(self, move):
         """Do a move, if a value is one; whether it is."""
-        word = word_of(move)
+        word = first_word(move)
         if word == "enter":
             return self._lets_in(move)
         return word == "take" and len(move) == 5 and self._lets_take(move)
