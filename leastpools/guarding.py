@@ -68,7 +68,8 @@ class CarefulSearch:
         # For each grant the bare states behind its moves.
         grants = {}
         for move, _, later in self._net.steps(bare, self._sizes):
-            grants.setdefault(self._net.grant_of(move), []).append(later)
+            grant = self._net.grant_of(move)
+            grants.setdefault(grant, []).append(later)
         return list(grants.values())
 
     def _meet(self, bare):

@@ -117,7 +117,7 @@ class Ways:
         waiting = [row for row in rows if not is_both_over(row)]
         if len(waiting) == len(rows):
             return waiting
-        return merged(waiting, self._behind[number])
+        return united(waiting, self._behind[number])
 
     def _outcomes(self, nodes, rest):
         for node in reversed(list(nodes)):
@@ -128,7 +128,7 @@ class Ways:
         if node[0] == "give":
             return rest
         if node[0] == "either":
-            return merged(self._outcomes(node[1], rest), self._outcomes(node[2], rest))
+            return united(self._outcomes(node[1], rest), self._outcomes(node[2], rest))
         if node[0] == "take":
             self._behind[node[1]] = self._outcomes(node[2], rest)
             return [node[1]]
@@ -139,7 +139,7 @@ class Ways:
         waiting = [row for row in rows if not is_both_over(row)]
         if len(waiting) == len(rows):
             return waiting
-        return merged(waiting, rest)
+        return united(waiting, rest)
 
 
 def is_both_over(row):
@@ -147,7 +147,7 @@ def is_both_over(row):
     return row[1] is None and row[2] is None
 
 
-def merged(one, other):
+def united(one, other):
     """The positions of two lists, each once."""
     return list({position: True for position in one + other})
 

@@ -66,7 +66,8 @@ class Rings:
                 ahead[later].append(index)
         over = [index for index, many in enumerate(counts) if many == 0]
         while len(over) > 0:
-            for index in ahead[over.pop()]:
+            last = over.pop()
+            for index in ahead[last]:
                 counts[index] = counts[index] - 1
                 if counts[index] == 0:
                     over.append(index)

@@ -123,7 +123,22 @@ def changes_what_it_walks(function):
             for part in changed_in(loop):
                 if ast.unparse(part) in over or (isinstance(part, ast.Attribute) and part.attr in fields):
                     return True
+                if not is_copy(loop.iter) and written_with(part) & written_with(loop.iter):
+                    return True
     return False
+
+
+def is_copy(value):
+    """Whether a value is `list(..)` of a name or a field."""
+    if not isinstance(value, ast.Call) or not isinstance(value.func, ast.Name) or value.func.id != "list":
+        return False
+    return all(isinstance(part, (ast.Name, ast.Attribute)) for part in value.args)
+
+
+def written_with(value):
+    """The names and fields, by their text, with which a value is written; a call only by what is in its parts."""
+    words = {ast.unparse(part) for part in ast.walk(value) if isinstance(part, (ast.Name, ast.Attribute))}
+    return words - {"self"} - BUILTINS
 
 
 class TestLanguage(unittest.TestCase):
@@ -294,13 +309,22 @@ class TestLanguage(unittest.TestCase):
             "for at, row in enumerate(rows): rows[at] = 1",
             "for row in table.items(): del table[row]",
             "for row in self.rows: other.rows.append(row)",
+            # What is changed is written with what gives the rows.
+            "for row in self.net.rows(n): found.setdefault(self.net.key(row), []).append(row)",
+            "for row in found[left.pop()]: left.append(row)",
             "for row in rows if rows else others: others.clear()",
             # What is walked next is what is changed now.
             "while rows:\n  left = []\n  for row in rows: left.append(row)\n  rows = left",
         )
         for text in bad:
             self.assertTrue(changes_what_it_walks(ast.parse(text)), text)
-        for text in ("for row in list(rows): rows.append(row)", "for row in rows: left.append(row)\nrows = list(left)"):
+        good = (
+            "for row in list(rows): rows.append(row)",
+            "for row in rows: left.append(row)\nrows = list(left)",
+            "some = list(rows)\nfor row in some: rows.append(row)",
+            "for row in self.net.rows(n):\n  key = self.net.key(row)\n  found.setdefault(key, []).append(row)",
+        )
+        for text in good:
             self.assertFalse(changes_what_it_walks(ast.parse(text)), text)
         for name, _, tree in self.trees():
             for function in functions(tree):
