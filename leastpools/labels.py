@@ -13,11 +13,9 @@ class Labels:
     """The bare states [nets.py] that are reached with some sizes, and the least peaks of the runs to each."""
 
     def __init__(self, net, sizes):
-        self._net = net
-        self._sizes = sizes
-        search = Search(net, sizes)
-        self._bare_states = search.bare_states()
-        self._edges = search.edges()
+        self._search = Search(net, sizes)
+        self._bare_states = self._search.bare_states()
+        self._edges = self._search.edges()
         self._indexes = {bare: index for index, bare in enumerate(self._bare_states)}
         self._labels = []
         self._least = [[] for _ in self._edges]
@@ -77,7 +75,6 @@ class Labels:
         _, _, number, edge = self._labels[self._numbers_of(bare)[vector]]
         while number is not None:
             index, _, ahead, next_edge = self._labels[number]
-            steps = self._net.steps(self._bare_states[index], self._sizes)
-            moves.append(steps[edge][0])
+            moves.append(self._search.moves_at(index)[edge])
             number, edge = ahead, next_edge
         return moves[::-1]

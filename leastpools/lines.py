@@ -1,10 +1,11 @@
 """Pools that are served in the order in which strands ask [21]."""
 
 from leastpools.errors import InvalidSizes, InvalidState, NoMove
+from leastpools.linesearch import LineSearch
 from leastpools.positions import is_strand
 from leastpools.programs import Program
 from leastpools.queues import (
-    LineSearch, behind_move, entries_of, held_at, is_line_move, line_moves, numbered, strands_told, stuck_rows,
+    behind_move, entries_of, held_at, is_line_move, line_moves, numbered, strands_told, stuck_rows,
 )
 from leastpools.sizes import Sizes
 from leastpools.states import is_place
@@ -120,10 +121,10 @@ def verdict_in_line(program, sizes):
     """A shortest run to a line with a stuck strand, or how many lines can be reached."""
     Line(program, sizes)
     search = LineSearch(program, vector_of(program.pools, sizes))
-    for index in range(search.how_many()):
-        if search.is_stuck(index):
-            return ("stuck", search.moves_to(index))
-    return ("good", search.how_many())
+    moves = search.first_stuck_run()
+    if moves is None:
+        return ("good", search.how_many())
+    return ("stuck", moves)
 
 
 def lets_line_run(program, sizes, thing):

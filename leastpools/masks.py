@@ -54,9 +54,15 @@ def unset_in(mask, vectors):
 
 def masked_edges(edges, masks):
     """For each state a list of tuples (mask, index of the state behind, whether it takes) of its moves."""
+    known = {}
     rows = []
     for row in edges:
-        rows.append([(masks.at_least(peak), later, peak is not None) for peak, later in row])
+        masked = []
+        for peak, later in row:
+            if peak not in known:
+                known[peak] = masks.at_least(peak)
+            masked.append((known[peak], later, peak is not None))
+        rows.append(masked)
     return rows
 
 

@@ -90,6 +90,14 @@ class Net:
                             found.append(((place, strand, one), peak, with_place(rest, one)))
         return found
 
+    def limits(self):
+        """For each job of the program how many may be there at a time."""
+        return list(self._limits)
+
+    def owner_of(self, place):
+        """The index of the job of the program that rests at a place."""
+        return self._owners[place]
+
     def ways_in(self):
         """For each job of the program the places at which a new one may rest."""
         return [list(row) for row in self._ways_in]

@@ -6,11 +6,9 @@ all strands that wait at takes, in the order in which they asked. The jobs are
 numbered in the order of the first entries of each. Amounts are vectors.
 """
 
-from leastpools.errors import TooMany
 from leastpools.positions import is_shaped, is_strand, takers_in
-from leastpools.searching import MOST_STATES
 from leastpools.values import first_word, is_integer
-from leastpools.vectors import added, is_within, less_by
+from leastpools.vectors import added, is_within
 
 
 def strands_told(program, places):
@@ -132,54 +130,3 @@ def stuck_rows(told, bare, free):
                 gone[(index, strand)] = True
                 free = added(free, held)
     return [row for row in rows if row not in gone]
-
-
-class LineSearch:
-    """The bare lines that can be reached with some sizes, the nearest ones first."""
-
-    def __init__(self, program, sizes):
-        self._program = program
-        self._sizes = sizes
-        places = [(name, position) for name in program.names() for position in program.code(name).positions()]
-        self._told = strands_told(program, places)
-        self._lines = [((), ())]
-        self._met = {((), ()): True}
-        self._origins = [None]
-        index = 0
-        while index < len(self._lines):
-            self._go_on_from(index)
-            index = index + 1
-
-    def _free_in(self, bare):
-        return less_by(self._sizes, held_at(self._program, bare[0]))
-
-    def _go_on_from(self, index):
-        bare = self._lines[index]
-        for move in line_moves(self._program, self._told, bare, self._free_in(bare)):
-            later = behind_move(bare, move)
-            if later not in self._met:
-                self._meet(later, (index, move))
-
-    def _meet(self, bare, origin):
-        if len(self._lines) == MOST_STATES:
-            raise TooMany(MOST_STATES)
-        self._met[bare] = True
-        self._lines.append(bare)
-        self._origins.append(origin)
-
-    def how_many(self):
-        """How many bare lines can be reached."""
-        return len(self._lines)
-
-    def is_stuck(self, index):
-        """Whether a bare line has a stuck strand."""
-        bare = self._lines[index]
-        return len(stuck_rows(self._told, bare, self._free_in(bare))) > 0
-
-    def moves_to(self, index):
-        """The moves of one of the shortest runs to a bare line."""
-        moves = []
-        while self._origins[index] is not None:
-            index, move = self._origins[index]
-            moves.append(move)
-        return moves[::-1]

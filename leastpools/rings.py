@@ -7,9 +7,10 @@ So all rings are between the states that can be reached.
 
 from leastpools.nets import Net
 from leastpools.searching import Search
-from leastpools.states import State, with_one_less, with_one_more
+from leastpools.states import with_one_less, with_one_more
+from leastpools.strands import KnownRows, freed
 from leastpools.stuck import stuck_set
-from leastpools.vectors import vector_of
+from leastpools.vectors import less_by, vector_of
 
 
 def ways_to_begin(program, name):
@@ -17,13 +18,18 @@ def ways_to_begin(program, name):
     return [position for position in program.code(name).first() if position is not None]
 
 
-def repeats_of(state):
-    """The moves by which a job with a stuck strand gives up, by jobs and later positions."""
-    places = {row[:2]: True for row in stuck_set(state)}
+def repeats_at(program, rows):
+    """The moves by which the jobs of some stuck rows give up, by jobs and later positions."""
+    places = {row[:2]: True for row in rows}
     found = []
     for name, position in places:
-        found.extend([("again", name, position, later) for later in ways_to_begin(state.program, name)])
+        found.extend([("again", name, position, later) for later in ways_to_begin(program, name)])
     return found
+
+
+def repeats_of(state):
+    """The moves by which a job with a stuck strand gives up, by jobs and later positions."""
+    return repeats_at(state.program, stuck_set(state))
 
 
 def jobs_begun_anew(jobs, move):
@@ -36,32 +42,39 @@ class Rings:
 
     def __init__(self, program, sizes):
         self._program = program
-        self._sizes = sizes
+        self._amounts = vector_of(program.pools, sizes)
         self._net = Net(program)
-        self._search = Search(self._net, vector_of(program.pools, sizes))
-        self._bare_states = self._search.bare_states()
-        indexes = {bare: index for index, bare in enumerate(self._bare_states)}
-        self._leads = []
-        for bare in self._bare_states:
-            rows = self._stays_from(bare) + self._repeats_from(bare)
-            self._leads.append([(move, indexes[later]) for move, later in rows])
+        self._search = Search(self._net, self._amounts)
 
-    def _stays_from(self, bare):
-        # Tuples (move, bare state behind it) of the moves that take, and the job stays.
-        steps = self._net.steps(bare, vector_of(self._program.pools, self._sizes))
-        kept = [(move, later) for move, peak, later in steps if peak is not None and move[2] is not None]
-        return [(self._net.move_of(move), later) for move, later in kept]
+    def _all_leads(self):
+        # For each state tuples (move, index of the state behind it); moves that take are bare ones.
+        bare_states = self._search.bare_states()
+        indexes = {bare: index for index, bare in enumerate(bare_states)}
+        known = KnownRows(self._program)
+        leads = []
+        for index, edges in enumerate(self._search.edges()):
+            stays = []
+            for move, (peak, later) in zip(self._search.moves_at(index), edges):
+                if peak is not None and move[2] is not None:
+                    stays.append((move, later))
+            jobs = self._search.jobs_at(index)
+            moves = repeats_at(self._program, self._stuck_rows(known.told_of(jobs), index))
+            repeats = [(move, self._net.bare_of(jobs_begun_anew(jobs, move))) for move in moves]
+            leads.append(stays + [(move, indexes[bare]) for move, bare in repeats])
+        return leads
 
-    def _repeats_from(self, bare):
-        jobs = self._net.jobs_of(bare)
-        moves = repeats_of(State(self._program, self._sizes, jobs))
-        return [(move, self._net.bare_of(jobs_begun_anew(jobs, move))) for move in moves]
+    def _stuck_rows(self, told, index):
+        gone = freed(told, less_by(self._amounts, self._search.used_at(index)))
+        if len(gone) == len(told):
+            return []
+        moved = {row: True for row in gone}
+        return [row for row in told if row not in moved]
 
-    def _endless(self):
+    def _endless(self, leads):
         # The indexes of the states from which such moves go on forever, in order.
-        ahead = [[] for _ in self._leads]
-        counts = [len(rows) for rows in self._leads]
-        for index, rows in enumerate(self._leads):
+        ahead = [[] for _ in leads]
+        counts = [len(rows) for rows in leads]
+        for index, rows in enumerate(leads):
             for _, later in rows:
                 ahead[later].append(index)
         over = [index for index, many in enumerate(counts) if many == 0]
@@ -73,9 +86,18 @@ class Rings:
                     over.append(index)
         return [index for index, many in enumerate(counts) if many > 0]
 
+    def _as_told(self, move):
+        if move[0] == "again":
+            return move
+        return self._net.move_of(move)
+
     def first_ring(self):
         """A tuple (moves to a state, ring there), or None if there is no ring."""
-        endless = {index: True for index in self._endless()}
+        # With good sizes there is none.
+        if not self._search.has_dead():
+            return None
+        leads = self._all_leads()
+        endless = {index: True for index in self._endless(leads)}
         if len(endless) == 0:
             return None
         index = list(endless)[0]
@@ -83,7 +105,7 @@ class Rings:
         moves = []
         while index not in met:
             met[index] = len(moves)
-            move, later = [row for row in self._leads[index] if row[1] in endless][0]
-            moves.append(move)
+            move, later = [row for row in leads[index] if row[1] in endless][0]
+            moves.append(self._as_told(move))
             index = later
         return ([self._net.move_of(move) for move in self._search.moves_to(index)], moves[met[index]:])

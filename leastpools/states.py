@@ -5,7 +5,7 @@ from leastpools.positions import is_strand
 from leastpools.programs import Program
 from leastpools.sizes import Sizes
 from leastpools.values import first_word, is_integer
-from leastpools.vectors import added, is_within, sizes_of, times, vector_of
+from leastpools.vectors import added, is_within, less_by, sizes_of, times, vector_of
 
 
 def is_place(program, thing):
@@ -33,21 +33,25 @@ def are_within_limits(program, thing):
     """Whether a value is a dict of jobs and positions of a program, within the limits."""
     if not isinstance(thing, dict):
         return False
+    counts = {}
     for key, many in thing.items():
         if not is_place(program, key) or not is_integer(many) or many < 1:
             return False
-    return all([count_of(thing, name) <= program.limit(name) for name in program.names()])
+        counts[key[0]] = counts.get(key[0], 0) + many
+    return all([counts[name] <= program.limit(name) for name in counts])
 
 
 def are_resting(program, sizes, thing):
     """Whether a value is jobs within the limits that hold at most these sizes."""
     if not are_within_limits(program, thing):
         return False
-    return is_within(held_by_jobs(program, thing), vector_of(program.pools, sizes))
+    return len(thing) == 0 or is_within(held_by_jobs(program, thing), vector_of(program.pools, sizes))
 
 
 def in_order(program, jobs):
     """The same jobs, by the order of the jobs of the program, then of the positions."""
+    if len(jobs) < 2:
+        return {place: jobs[place] for place in jobs}
     names = program.names()
     rows = [(names.index(place[0]), program.code(place[0]).index_of(place[1]), place) for place in jobs]
     return {place: jobs[place] for _, _, place in sorted(rows)}
@@ -91,9 +95,10 @@ class State:
         self._program = program
         self._sizes = sizes
         self._jobs = in_order(program, jobs)
-        self._held = sizes_of(program.pools, held_by_jobs(program, jobs))
-        self._free = sizes - self._held
-        self._spare = vector_of(program.pools, self._free)
+        self._used = held_by_jobs(program, jobs)
+        self._held_sizes = None
+        self._free_sizes = None
+        self._free_vector = None
 
     @property
     def program(self):
@@ -108,12 +113,23 @@ class State:
     @property
     def held(self):
         """What all jobs hold together."""
-        return self._held
+        if self._held_sizes is None:
+            self._held_sizes = sizes_of(self._program.pools, self._used)
+        return self._held_sizes
 
     @property
     def free(self):
         """What nobody holds."""
-        return self._free
+        if self._free_sizes is None:
+            self._free_sizes = self._sizes - sizes_of(self._program.pools, self._used)
+        return self._free_sizes
+
+    @property
+    def spare(self):
+        """What nobody holds, as a vector."""
+        if self._free_vector is None:
+            self._free_vector = less_by(vector_of(self._program.pools, self._sizes), self._used)
+        return self._free_vector
 
     @property
     def job_count(self):
@@ -176,7 +192,7 @@ class State:
     def _ways_open(self, name, position):
         # The strands that can take, with the later positions.
         rows = self._program.code(name).ways_on(position)
-        return [(strand, later) for strand, want, later in rows if is_within(want, self._spare)]
+        return [(strand, later) for strand, want, later in rows if is_within(want, self.spare)]
 
     def _can_enter(self, name, position):
         if not is_place(self._program, (name, position)):
@@ -193,3 +209,15 @@ class State:
 def empty_state(program, sizes):
     """The state without jobs."""
     return State(program, sizes, {})
+
+
+def known_state(program, sizes, jobs, used):
+    """The state with jobs of which it is known that they can be there, in which order, and what they hold.
+
+    It keeps the dict itself. Where there are many states, most of the time
+    would go into finding out what is known already.
+    """
+    state = State(program, sizes, {})
+    state._jobs = jobs
+    state._used = used
+    return state

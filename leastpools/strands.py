@@ -31,8 +31,9 @@ def rows_of_one(program, places):
     return told
 
 
-def rows_together(by_place, jobs):
-    """A dict from all rows of some jobs to what is told of them, by what is told of one job at each place."""
+def rows_of_jobs(program, jobs):
+    """A dict from all rows of some jobs to what is told of them."""
+    by_place = rows_by_place(program, list(jobs))
     told = {}
     for place, many in jobs.items():
         for row, want, held, inside in by_place[place]:
@@ -40,9 +41,25 @@ def rows_together(by_place, jobs):
     return told
 
 
-def rows_of_jobs(program, jobs):
-    """A dict from all rows of some jobs to what is told of them."""
-    return rows_together(rows_by_place(program, list(jobs)), jobs)
+class KnownRows:
+    """What is told of the rows of many states, worked out once for so many jobs at a place."""
+
+    def __init__(self, program):
+        self._program = program
+        self._known = {}
+
+    def _rows_for(self, place, many):
+        if (place, many) not in self._known:
+            self._known[(place, many)] = list(rows_of_jobs(self._program, {place: many}).items())
+        return self._known[(place, many)]
+
+    def told_of(self, jobs):
+        """A dict from all rows of some jobs to what is told of them."""
+        told = {}
+        for place, many in jobs.items():
+            for row, one in self._rows_for(place, many):
+                told[row] = one
+        return told
 
 
 def rows_of(state):
@@ -65,9 +82,9 @@ def are_stuck(program, jobs, amounts):
     return len(freed(told, free)) < len(told)
 
 
-def can_go(told, row, free, gone):
-    """Whether a row can go on with this free, if the rows that are gone have gone on."""
-    want, _, inside = told[row]
+def can_go(one, free, gone):
+    """Whether a row of which this is told can go on with this free, if the rows that are gone have gone on."""
+    want, _, inside = one
     if want is None:
         return all([part in gone for part in inside])
     return is_within(want, free)
@@ -76,15 +93,18 @@ def can_go(told, row, free, gone):
 def freed(told, free):
     """The rows that can go on, in an order in which each can if those ahead have given back."""
     gone = {}
-    waiting = list(told)
+    waiting = list(told.items())
     many = -1
-    while len(gone) > many:
+    while len(gone) > many and len(waiting) > 0:
         many = len(gone)
-        for row in waiting:
-            if can_go(told, row, free, gone):
-                free = added(free, told[row][1])
+        left = []
+        for row, one in waiting:
+            if can_go(one, free, gone):
+                free = added(free, one[1])
                 gone[row] = True
-        waiting = [row for row in waiting if row not in gone]
+            else:
+                left.append((row, one))
+        waiting = list(left)
     return list(gone)
 
 
@@ -110,7 +130,9 @@ def gone_in_order(one, jobs, free, thing):
         return None
     gone = {}
     for row in thing:
-        if not is_row(one, row) or row[:2] not in jobs or row in gone or not can_go(one, row, free, gone):
+        if not is_row(one, row) or row[:2] not in jobs or row in gone:
+            return None
+        if not can_go(one[row], free, gone):
             return None
         gone[row] = True
         free = added(free, times(one[row][1], jobs[row[:2]]))

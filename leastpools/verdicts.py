@@ -1,7 +1,7 @@
 """Whether sizes are good, with papers that can be checked [12]."""
 
 from leastpools.judging import Judge
-from leastpools.states import State, empty_state
+from leastpools.states import empty_state, known_state
 from leastpools.tables import Table
 from leastpools.vectors import vector_of
 from leastpools.walks import Walk
@@ -16,8 +16,8 @@ def judge_of(program, sizes):
 def reached(program, sizes):
     """Yield all states that can be reached, the nearest ones first."""
     judge = judge_of(program, sizes)
-    for jobs in judge.all_jobs():
-        yield State(program, sizes, jobs)
+    for jobs, used in judge.all_jobs():
+        yield known_state(program, sizes, jobs, used)
 
 
 def verdict(program, sizes):

@@ -5,6 +5,7 @@ whatever file or class it stands in, as rules L5 and L28 of LANGUAGE.md have it.
 """
 
 import ast
+import re
 import unittest
 
 from tests.test_language import CHANGING, files
@@ -156,6 +157,23 @@ class TestOperators(unittest.TestCase):
 
     def test_operators_change_nothing(self):
         self.assertEqual(changed_by_operators([text for _, text in files()]), [])
+
+    def test_kept_answers(self):
+        # What a property keeps is None at first, and is named by nothing else in the package.
+        texts = [text for _, text in files()]
+        kept = 0
+        for text in texts:
+            for owner in [node for node in ast.walk(ast.parse(text)) if isinstance(node, ast.ClassDef)]:
+                starts = [ast.unparse(part) for one in owner.body if getattr(one, "name", "") == "__init__" for part in one.body]
+                for function in [one for one in owner.body if isinstance(one, ast.FunctionDef) and is_property(one)]:
+                    set_there = [node for node in ast.walk(function) if isinstance(node, ast.Assign)]
+                    for node in set_there:
+                        name = node.targets[0].attr
+                        self.assertEqual(len(set_there), 1)
+                        self.assertIn(f"self.{name} = None", starts)
+                        self.assertEqual(sum(len(re.findall(rf"\b{name}\b", one)) for one in texts), 4, name)
+                        kept += 1
+        self.assertGreaterEqual(kept, 5)
 
     def test_operators_are_looked_at(self):
         source = Source([text for _, text in files()])
