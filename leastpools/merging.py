@@ -1,9 +1,10 @@
 """Histories of single jobs [22], and the orders in which their moves are possible together."""
 
 from leastpools.errors import TooMany
+from leastpools.packing import Packing
 from leastpools.searching import MOST_STATES
 from leastpools.values import is_integer
-from leastpools.vectors import is_within, less_by, with_amount
+from leastpools.vectors import less_by
 
 
 def is_plain(thing):
@@ -66,10 +67,6 @@ class Track:
             position = later
         return True
 
-    def is_there(self, many):
-        """Whether the job is there when so many moves are done."""
-        return many > 0 and self.doing[many - 1][-1] is not None
-
 
 def want_of_step(code, position, strand, later):
     """What is wanted in a step from a position, as a vector; None if there is no such step."""
@@ -84,54 +81,77 @@ def want_of_step(code, position, strand, later):
 class Merge:
     """All that is reached by doing the moves of some tracks, each in its own order.
 
-    What is reached is told by the tuple of how many moves of each are done.
+    What is reached is a number. It has, from the top: fields [packing.py] for
+    how many more jobs of each name may enter, and for what is free of each
+    pool; bits for the moves, those of the first track on top. The bit of a
+    move is set if it is the next one of its track.
     """
 
     def __init__(self, program, sizes, tracks):
-        self._limits = {name: program.limit(name) for name in program.names()}
-        self._sizes = sizes
         self._tracks = list(tracks)
-        start = tuple([0 for _ in tracks])
-        self._origins = {start: None}
-        waiting = [start]
+        names = program.names()
+        limits = [program.limit(name) for name in names]
+        self._packing = Packing([*sizes, *limits])
+        # What a job takes when it enters, and gives back when it leaves: the room for one of its name.
+        self._rooms = {name: self._packing.one_in(len(sizes) + at) for at, name in enumerate(names)}
+        self._shift = sum([len(track.doing) for track in tracks])
+        self._guards = self._packing.guards << self._shift
+        self._start = self._packing.start << self._shift
+        # By how many bits there are up to a move: tuples (bit, what has to be free, what is added by it, move).
+        self._steps = [(0, 0, 0, None) for _ in range(self._shift + 1)]
+        low = self._shift
+        for track in tracks:
+            low = low - len(track.doing)
+            self._tell_track(track, low)
+        self._origins = {self._start: None}
+        self._go_through()
+
+    def _tell_track(self, track, low):
+        if len(track.doing) > 0:
+            self._start = self._start + (1 << low)
+        room = self._rooms[track.job]
+        for at, move in enumerate(track.doing):
+            change = self._packing.packed(less_by(track.holding[at], track.holding[at + 1]))
+            want = room
+            if track.wanting[at] is None:
+                change = change - room
+            else:
+                want = self._packing.packed(track.wanting[at])
+            if move[-1] is None:
+                change = change + room
+            bit = 1 << (low + at)
+            change = (change << self._shift) - bit
+            if at + 1 < len(track.doing):
+                change = change + 2 * bit
+            self._steps[low + at + 1] = (bit, want << self._shift, change, move)
+
+    def _go_through(self):
+        origins = self._origins
+        guards = self._guards
+        mask = (1 << self._shift) - 1
+        waiting = [self._start]
         while len(waiting) > 0:
-            done = waiting.pop()
-            for at in self._tracks_that_can(done):
-                later = with_amount(done, at, done[at] + 1)
-                if later not in self._origins:
-                    self._meet(later, (done, at))
-                    waiting.append(later)
-
-    def _meet(self, done, origin):
-        if len(self._origins) == MOST_STATES:
-            raise TooMany(MOST_STATES)
-        self._origins[done] = origin
-
-    def _tracks_that_can(self, done):
-        # The indexes of the tracks of which one more move is possible.
-        free = self._sizes
-        counts = {name: 0 for name in self._limits}
-        for track, many in zip(self._tracks, done):
-            free = less_by(free, track.holding[many])
-            if track.is_there(many):
-                counts[track.job] = counts[track.job] + 1
-        found = []
-        for at, track in enumerate(self._tracks):
-            if done[at] < len(track.doing):
-                want = track.wanting[done[at]]
-                if want is None and counts[track.job] < self._limits[track.job]:
-                    found.append(at)
-                if want is not None and is_within(want, free):
-                    found.append(at)
-        return found
+            number = waiting.pop()
+            spare = number | guards
+            rest = number & mask
+            while rest > 0:
+                step = self._steps[rest.bit_length()]
+                rest = rest - step[0]
+                if ((spare - step[1]) & guards) == guards:
+                    later = number + step[2]
+                    if later not in origins:
+                        origins[later] = (number, step[3])
+                        waiting.append(later)
+            if len(origins) > MOST_STATES:
+                raise TooMany(MOST_STATES)
 
     def whole_run(self):
         """All moves in an order in which they are possible, or None if there is none."""
-        done = tuple([len(track.doing) for track in self._tracks])
-        if done not in self._origins or not all([track.is_whole for track in self._tracks]):
+        number = self._start + sum([change for _, _, change, _ in self._steps])
+        if number not in self._origins or not all([track.is_whole for track in self._tracks]):
             return None
         moves = []
-        while self._origins[done] is not None:
-            done, at = self._origins[done]
-            moves.append(self._tracks[at].doing[done[at]])
+        while self._origins[number] is not None:
+            number, move = self._origins[number]
+            moves.append(move)
         return moves[::-1]
