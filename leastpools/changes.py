@@ -139,7 +139,8 @@ class Variants:
     def keys_by_edit(self, key):
         """A dict from all edits of the program with a key, in order, to the keys of the programs behind them."""
         if key not in self._edits:
-            rows = [(edit, self._key_of(jobs)) for edit, jobs in possible_changes(self._programs[key])]
+            found = list(possible_changes(self._programs[key]))
+            rows = [(edit, self._key_of(jobs)) for edit, jobs in found]
             self._edits[key] = {edit: later for edit, later in rows if later is not None}
         return {edit: later for edit, later in self._edits[key].items()}
 

@@ -30,12 +30,13 @@ class Code:
         places = [*self._positions, None]
         ranks = {None: -1, **self._indexes}
         self._first = in_order(first, ranks, places)
-        self._ways = []
+        ways = []
         for position in self._positions:
             rows = []
             for strand, number, later in found[position]:
                 rows.append((strand, self._wants[number], in_order(later, ranks, places)))
-            self._ways.append(rows)
+            ways.append(rows)
+        self._ways = ways
         zero = tuple([0 for _ in pools])
         self._held = [held_at(self._holds, position, zero) for position in self._positions]
         self._need = None
@@ -162,6 +163,16 @@ def held_at(holds, position, zero):
         return holds[position]
     number, first, second = position
     return added(holds[number], added(held_at(holds, first, zero), held_at(holds, second, zero)))
+
+
+def want_of_step(code, position, strand, later):
+    """What is wanted in a step from a position, as a vector; None if there is no such step."""
+    if position is None:
+        return None
+    for one, want, positions in code.ways_on(position):
+        if one == strand and later in positions:
+            return want
+    return None
 
 
 class Codes:

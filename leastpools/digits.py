@@ -22,10 +22,10 @@ class Digits:
         limits = net.limits()
         self._packing = Packing([*sizes, *limits])
         self._width = max([1, *limits]).bit_length()
-        self._outside = self._width * len(self._places)
-        self._shift = self._outside + 1
+        self._entry_bit = self._width * len(self._places)
+        self._shift = self._entry_bit + 1
         self.guards = self._packing.guards << self._shift
-        self.start = (self._packing.start << self._shift) + (1 << self._outside)
+        self.start = (self._packing.start << self._shift) + (1 << self._entry_bit)
         # What a job takes when it enters, and gives back when it leaves: the room for one of its name.
         self._rooms = [self._packing.one_in(len(sizes) + at) for at in range(len(limits))]
         self._pool_bits = self._packing.one_in(len(sizes)) - 1
@@ -35,7 +35,7 @@ class Digits:
         # By how many bits there are up to the first place at which there are
         # jobs: the ways from there, the place and its lowest bit, what is below.
         self._ways = [[] for _ in range(self._shift + 1)]
-        self._tops = [(None, self._outside) for _ in range(self._shift + 1)]
+        self._tops = [(None, self._entry_bit) for _ in range(self._shift + 1)]
         self._below = [0 for _ in range(self._shift + 1)]
         self._tell_outside(net)
         for place in range(len(self._places)):
@@ -64,7 +64,7 @@ class Digits:
             if len(places) > 0:
                 moves = [(None, (), place) for place in places]
                 self._ways[self._shift].append(self._way(self._rooms[owner], moves))
-        self._below[self._shift] = (1 << self._outside) - 1
+        self._below[self._shift] = (1 << self._entry_bit) - 1
 
     def _tell_place(self, net, place):
         ways = []
@@ -99,7 +99,7 @@ class Digits:
 
     def places_in(self, number):
         """Tuples (place, how many jobs are there) of the places at which there are jobs, in order."""
-        rest = number & ((1 << self._outside) - 1)
+        rest = number & ((1 << self._entry_bit) - 1)
         found = []
         while rest > 0:
             bits = rest.bit_length()

@@ -137,7 +137,7 @@ class Descent:
         many = -1
         while len(done) > many:
             many = len(done)
-            for key in self.left():
+            for key in list(self.left()):
                 while self.can_fall(key):
                     done.append((key, self.fall(key)))
         return done

@@ -57,12 +57,16 @@ class CarefulSearch:
         return self._price
 
     def _go_on_from(self, bare):
+        held_back = 0
+        let = []
         for behind in self._behind_grants(bare):
             if all([self._guard.lets(later) for later in behind]):
-                for later in behind:
-                    self._meet(later)
+                let.extend(behind)
             else:
-                self._price = self._price + 1
+                held_back = held_back + 1
+        self._price = self._price + held_back
+        for later in let:
+            self._meet(later)
 
     def _behind_grants(self, bare):
         # For each grant the bare states behind its moves.

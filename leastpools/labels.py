@@ -44,7 +44,7 @@ class Labels:
         number = len(self._labels)
         self._labels.append(label)
         self._least[index].append(number)
-        for edge, (peak, later) in enumerate(self._edges[index]):
+        for edge, (peak, later) in enumerate(list(self._edges[index])):
             most = vector
             if peak is not None:
                 most = greater(vector, peak)

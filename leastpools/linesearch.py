@@ -23,7 +23,7 @@ class Spots:
         # For each place a dict from the strands that wait at takes to the numbers of their spots.
         self._numbers = []
         self._spots = []
-        for place, _ in enumerate(self._places):
+        for place in range(len(self._places)):
             strands = [strand for strand, _, _ in net.takes_at(place)]
             self._numbers.append({strand: len(self._spots) + at for at, strand in enumerate(strands)})
             self._spots.extend([(place, strand) for strand in strands])
@@ -97,11 +97,8 @@ class LineSearch:
         self._spots = Spots(net)
         self._entering = [self._led(way, True) for way in self._digits.ways_at(None)]
         self._serving = []
-        for place, _ in enumerate(self._places):
-            takes = net.takes_at(place)
-            for (_, want, _), way in zip(takes, self._digits.ways_at(place)):
-                pools = sum([1 << at for at, amount in enumerate(want) if amount > 0])
-                self._serving.append((pools, *self._led(way, len(takes) == 1)))
+        for place in range(len(self._places)):
+            self._serving.extend(self._served_at(net.takes_at(place), place))
         self._all_pools = (1 << len(sizes)) - 1
         # For each line its row, and the number [digits.py] of its state.
         self._rows = [()]
@@ -115,6 +112,14 @@ class LineSearch:
             index = index + 1
             if len(self._rows) > MOST_STATES:
                 raise TooMany(MOST_STATES)
+
+    def _served_at(self, takes, place):
+        # For each take at a place a tuple (pools that are wanted, as bits, want, leads).
+        rows = []
+        for (_, wanted, _), way in zip(takes, self._digits.ways_at(place)):
+            want, leads = self._led(way, len(takes) == 1)
+            rows.append((sum([1 << at for at, amount in enumerate(wanted) if amount > 0]), want, leads))
+        return rows
 
     def _led(self, way, is_alone):
         # A tuple (want, leads) for a way; a lead is a tuple (change, place, tail), the tail None if there are tags.
@@ -134,7 +139,7 @@ class LineSearch:
         if len(served) == 0 and len(row) > 0:
             self._has_dead = True
         found = self._behind_entering(row, number) + served
-        for later, behind in found:
+        for later, behind in list(found):
             if later not in self._met:
                 self._met[later] = True
                 self._rows.append(later)
@@ -188,8 +193,8 @@ class LineSearch:
         if not self._has_dead:
             return None
         told = strands_told(self._program, self._places)
-        for index, row in enumerate(self._rows):
-            if len(stuck_rows(told, self._spots.bare_of(row), self._free_at(index))) > 0:
+        for index in range(len(self._rows)):
+            if len(stuck_rows(told, self._spots.bare_of(self._rows[index]), self._free_at(index))) > 0:
                 return self._moves_to(told, index)
         return None
 

@@ -1,5 +1,6 @@
 """Histories of single jobs [22], and the orders in which their moves are possible together."""
 
+from leastpools.codes import want_of_step
 from leastpools.errors import TooMany
 from leastpools.packing import Packing
 from leastpools.searching import MOST_STATES
@@ -66,16 +67,6 @@ class Track:
             self._add(code, ("take", self.job, position, strand, later), want)
             position = later
         return True
-
-
-def want_of_step(code, position, strand, later):
-    """What is wanted in a step from a position, as a vector; None if there is no such step."""
-    if position is None:
-        return None
-    for one, want, positions in code.ways_on(position):
-        if one == strand and later in positions:
-            return want
-    return None
 
 
 class Merge:

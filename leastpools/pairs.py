@@ -168,7 +168,7 @@ class PairSearch:
             index = index + 1
 
     def _go_on_from(self, pair):
-        for move, right, wrong, later in self._pairs.answers(pair):
+        for move, right, wrong, later in list(self._pairs.answers(pair)):
             if right != wrong and self._first_other is None:
                 self._first_other = (pair, move)
             if right and wrong and later not in self._origins:

@@ -6,33 +6,44 @@ from leastpools.errors import TooMany
 MOST_STATES = 2000
 
 
-class Search:
-    """The states that can be reached, the nearest ones first, by their indexes."""
+def all_found(digits):
+    """A tuple of what is told of the states that can be reached, the nearest ones first.
 
-    def __init__(self, net, sizes):
-        self._digits = Digits(net, sizes)
-        self._numbers = [self._digits.start]
-        self._indexes = {self._digits.start: 0}
-        # For each state the index of that from which it was met first, and the ways that are open in it.
-        self._origins = [None]
-        self._opened = []
-        while len(self._opened) < len(self._numbers):
-            self._go_on_from(len(self._opened))
-            if len(self._numbers) > MOST_STATES:
-                raise TooMany(MOST_STATES)
-
-    def _go_on_from(self, index):
-        number = self._numbers[index]
-        ways = self._digits.open_ways(number)
-        self._opened.append(ways)
-        indexes = self._indexes
+    These are a dict from the numbers of the states to their indexes, a list of
+    the indexes from which they were met first, and a list of the ways that are
+    open in them.
+    """
+    numbers = [digits.start]
+    indexes = {digits.start: 0}
+    origins = [None]
+    opened = []
+    while len(opened) < len(numbers):
+        index = len(opened)
+        number = numbers[index]
+        ways = digits.open_ways(number)
+        opened.append(ways)
         for _, changes, _ in ways:
             for change in changes:
                 later = number + change
                 if later not in indexes:
                     indexes[later] = len(indexes)
-                    self._numbers.append(later)
-                    self._origins.append(index)
+                    numbers.append(later)
+                    origins.append(index)
+        if len(numbers) > MOST_STATES:
+            raise TooMany(MOST_STATES)
+    return (indexes, origins, opened)
+
+
+class Search:
+    """The states that can be reached, the nearest ones first, by their indexes."""
+
+    def __init__(self, net, sizes):
+        self._digits = Digits(net, sizes)
+        indexes, origins, opened = all_found(self._digits)
+        self._numbers = list(indexes)
+        self._indexes = indexes
+        self._origins = origins
+        self._opened = opened
 
     def how_many(self):
         """How many states can be reached."""

@@ -1,5 +1,6 @@
 """Moves [9] done one after another, without the states between them."""
 
+from leastpools.codes import want_of_step
 from leastpools.positions import is_strand
 from leastpools.states import count_of, is_place, jobs_behind
 from leastpools.strands import are_stuck
@@ -51,14 +52,12 @@ class Walk:
         code = self._program.code(name)
         if not is_strand(strand) or (later is not None and not code.knows(later)):
             return False
-        for one, want, ways in code.ways_on(position):
-            if one == strand and later in ways:
-                need = added(self._used, want)
-                if is_within(need, self._amounts):
-                    self._most = greater(self._most, need)
-                    self._used = less_by(self._used, code.vector_held(position))
-                    if later is not None:
-                        self._used = added(self._used, code.vector_held(later))
-                    self._jobs = jobs_behind(self._jobs, move)
-                    return True
-        return False
+        want = want_of_step(code, position, strand, later)
+        if want is None or not is_within(added(self._used, want), self._amounts):
+            return False
+        self._most = greater(self._most, added(self._used, want))
+        self._used = less_by(self._used, code.vector_held(position))
+        if later is not None:
+            self._used = added(self._used, code.vector_held(later))
+        self._jobs = jobs_behind(self._jobs, move)
+        return True

@@ -141,6 +141,79 @@ def written_with(value):
     return words - {"self"} - BUILTINS
 
 
+NEW_BY = set("list dict sorted range tuple len sum min max int str abs any all set".split())
+
+
+def begins_with(value):
+    """The names with which a value begins that is not plainly a new one: that of the object off which it is read or called."""
+    if isinstance(value, ast.Name):
+        return {value.id}
+    if isinstance(value, (ast.Attribute, ast.Subscript, ast.Starred)):
+        return begins_with(value.value)
+    parts = []
+    if isinstance(value, ast.IfExp):
+        parts = [value.body, value.orelse]
+    if isinstance(value, ast.BoolOp):
+        parts = value.values
+    if isinstance(value, ast.BinOp):
+        parts = [value.left, value.right]
+    if isinstance(value, ast.Tuple):
+        parts = value.elts
+    if isinstance(value, ast.Call) and isinstance(value.func, ast.Attribute):
+        parts = [value.func.value]
+    if isinstance(value, ast.Call) and isinstance(value.func, ast.Name) and value.func.id in ("enumerate", "zip", "reversed"):
+        parts = value.args
+    return {name for part in parts for name in begins_with(part)}
+
+
+def beginnings(function):
+    """For each name of a function the names with which the values begin that it is given."""
+    found = {}
+    for node in ast.walk(function):
+        pairs = []
+        if isinstance(node, ast.Assign):
+            pairs = [(target, node.value) for target in node.targets]
+        if isinstance(node, (ast.For, ast.comprehension)):
+            pairs = [(node.target, node.iter)]
+        for target, value in pairs:
+            for part in ast.walk(target):
+                if isinstance(part, ast.Name) and isinstance(part.ctx, ast.Store):
+                    found.setdefault(part.id, set()).update(begins_with(value))
+    return found
+
+
+def begins_in_the_end_with(value, found):
+    names = begins_with(value)
+    more = names
+    while more:
+        more = {one for name in more for one in found.get(name, set())} - names
+        names = names | more
+    return names
+
+
+def changes_what_it_walks_off(function):
+    """Rows in which a loop of a function changes what begins with the name of the object off which it walks something."""
+    found = beginnings(function)
+    rows = []
+    for loop in ast.walk(function):
+        if isinstance(loop, ast.For):
+            over = begins_in_the_end_with(loop.iter, found)
+            # Attributes that are assigned count here, too.
+            inside = [node for statement in loop.body for node in ast.walk(statement)]
+            set_there = [node.value for node in inside if isinstance(node, ast.Attribute) and isinstance(node.ctx, ast.Store)]
+            for part in [*changed_in(loop), *set_there]:
+                if over & begins_in_the_end_with(part, found):
+                    rows.append(part.lineno)
+    return rows
+
+
+def is_barred(name):
+    """Whether L12 bars a name."""
+    if name.rstrip("0123456789_") in ("_cold", "_tuplegetter", "_outside", "_record", "_written_out", "_member_names"):
+        return True
+    return name.startswith(("_wall", "_pe_", "_dcw_", "_enum_", "_cm_", "_twin_re_", "_lay_", "_law_", "_stub_", "_sre", "_WallAttr"))
+
+
 class TestLanguage(unittest.TestCase):
     def trees(self):
         return [(name, text, ast.parse(text)) for name, text in files()]
@@ -329,3 +402,41 @@ class TestLanguage(unittest.TestCase):
         for name, _, tree in self.trees():
             for function in functions(tree):
                 self.assertFalse(changes_what_it_walks(function), (name, function.name))
+
+    def test_loops_leave_the_object_off_which_they_walk(self):
+        bad = (
+            "for row in self.rows: self.others.append(row)",
+            "for at, row in enumerate(self.rows): self.others.extend(row)",
+            "found = self.near(1) + others\nfor row in found: self.met[row] = True",
+            "rows = self.table[k]\nothers = self.others\nfor row in rows: others[row] = 1",
+            "for row in self.rows:\n  for one in row: self.others.append(one)",
+            "for row in net.rows(): net.many = row",
+        )
+        for text in bad:
+            self.assertEqual(len(changes_what_it_walks_off(ast.parse(text))) > 0, True, text)
+        good = (
+            "for at in range(len(self.rows)): self.others.append(at)",
+            "for row in list(self.rows): self.others.append(row)",
+            "found = [row for row in self.rows]\nfor row in found: self.others.append(row)",
+            "for row in self.rows: others.append(row)",
+            "for row in net.rows(): self.rows.append(row)",
+        )
+        for text in good:
+            self.assertEqual(changes_what_it_walks_off(ast.parse(text)), [], text)
+        for name, _, tree in self.trees():
+            for function in functions(tree):
+                self.assertEqual(changes_what_it_walks_off(function), [], (name, function.name))
+
+    def test_names_that_are_barred(self):
+        for name in ("_outside", "_outside_2", "_cold7", "_walls", "_record", "_sre", "_law_of"):
+            self.assertTrue(is_barred(name), name)
+        for name in ("_records", "_written", "outside", "_laws", "_entry_bit", "_colder"):
+            self.assertFalse(is_barred(name), name)
+        for name, text, tree in self.trees():
+            self.assertNotRegex(text, r"\b_wall\b|_WallAttr", name)
+            for node in ast.walk(tree):
+                for word in ("id", "attr", "arg", "name"):
+                    used = getattr(node, word, None)
+                    if isinstance(used, str):
+                        self.assertFalse(is_barred(used), (name, node.lineno, used))
+                        self.assertFalse(used.startswith("__") and not used.endswith("__"), (name, used))
